@@ -1,0 +1,1 @@
+"""Surespan: ordered patterns over text."""

@@ -1,0 +1,108 @@
+"""Trees for the tests, made by hand and by a seeded generator."""
+
+import random
+
+from surespan.alphabet import SIGNS
+
+A, B, C = ("set", "a"), ("set", "b"), ("set", "c")
+EMPTY = ("empty",)
+NOTHING = ("set", "")
+EDGE_KINDS = ["start", "end", "line start", "line end", "word edge", "no word edge"]
+
+
+def seq(*parts):
+    return ("seq", parts)
+
+
+def alt(*branches):
+    return ("alt", branches)
+
+
+def repeat(body, least, most, lazy=False):
+    return ("repeat", body, least, most, lazy)
+
+
+def group(name, body):
+    return ("group", name, body)
+
+
+def look(body, side="ahead", wanted=True):
+    return ("look", side, wanted, body)
+
+
+def edge(kind):
+    return ("edge", kind)
+
+
+def same(name):
+    return ("same", name)
+
+
+class Growing:
+    """Makes well-formed trees at random, always the same ones for one seed."""
+
+    def __init__(self, seed, signs="ab", kinds=("look", "edge", "same")):
+        self.chance = random.Random(seed)
+        self.signs = signs
+        self.kinds = kinds
+        self.groups = []
+
+    def tree(self, depth):
+        self.groups = []
+        return self.grow(depth, False)
+
+    def grow(self, depth, in_look):
+        choices = ["set", "set", "set", "empty"]
+        if "edge" in self.kinds:
+            choices += ["edge"]
+        if "same" in self.kinds and self.groups and not in_look:
+            choices += ["same"]
+        if depth > 1:
+            choices += ["seq", "seq", "alt", "repeat"] + ([] if in_look else ["group"])
+            if "look" in self.kinds and not in_look:
+                choices += ["look"]
+        return getattr(self, "grow_" + self.chance.choice(choices))(depth - 1, in_look)
+
+    def grow_set(self, depth, in_look):
+        members = [s for s in self.signs if self.chance.random() < 0.45]
+        return ("set", "".join(sorted(members)))
+
+    def grow_empty(self, depth, in_look):
+        return EMPTY
+
+    def grow_edge(self, depth, in_look):
+        return edge(self.chance.choice(EDGE_KINDS))
+
+    def grow_same(self, depth, in_look):
+        return same(self.chance.choice(self.groups))
+
+    def grow_seq(self, depth, in_look):
+        return ("seq", tuple(self.grow(depth, in_look) for _ in range(self.chance.choice([2, 2, 3]))))
+
+    def grow_alt(self, depth, in_look):
+        return ("alt", tuple(self.grow(depth, in_look) for _ in range(self.chance.choice([2, 2, 3]))))
+
+    def grow_repeat(self, depth, in_look):
+        least, most = self.chance.choice([(0, None), (1, None), (0, 1), (0, 0), (1, 1), (1, 2), (2, 2), (2, None)])
+        return repeat(self.grow(depth, in_look), least, most, self.chance.random() < 0.3)
+
+    def grow_group(self, depth, in_look):
+        name = self.chance.choice(["x", "y", "a_1", "abcdefghijkl"])
+        self.groups.append(name)
+        return group(name, self.grow(depth, in_look))
+
+    def grow_look(self, depth, in_look):
+        side = self.chance.choice(["ahead", "behind"])
+        return look(self.grow(depth, True), side, self.chance.random() < 0.5)
+
+
+def trees_of_each_form():
+    """Return well-formed trees that show each form and each of its fields."""
+    return [
+        EMPTY, NOTHING, A, ("set", "ab"), ("set", SIGNS), seq(A, B), seq(EMPTY, A, B), alt(A, B), alt(EMPTY, EMPTY, C),
+        repeat(A, 0, None), repeat(A, 1, None, True), repeat(A, 0, 0), repeat(A, 9, 9), repeat(A, 0, 9, True),
+        repeat(seq(A, EMPTY), 2, 5), group("x", A), group("a_9", EMPTY), group("abcdefghijkl", seq(A, B)),
+        look(A), look(A, "ahead", False), look(seq(A, B), "behind"), look(EMPTY, "behind", False),
+        seq(group("x", A), same("x")), group("x", seq(A, same("x"))), group("x", group("x", B)),
+        alt(group("x", A), group("y", B), group("x", C)),
+    ] + [edge(kind) for kind in EDGE_KINDS]

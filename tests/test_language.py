@@ -1,0 +1,237 @@
+"""The code of the package keeps to the rules of LANGUAGE.md, as far as they are easily seen.
+
+The numbers in the messages are those of the rules.
+"""
+
+import ast
+import builtins
+import pathlib
+import re
+import unittest
+import warnings
+
+PACKAGE = pathlib.Path(__file__).resolve().parent.parent / "surespan"
+FILES = sorted(PACKAGE.rglob("*.py"))
+TREES = {path.stem: ast.parse(path.read_text()) for path in FILES}
+
+BUILTINS = set(
+    "len range enumerate zip min max sum abs sorted reversed int str bool list tuple dict set isinstance ord repr any all"
+    " divmod iter next super map property staticmethod Exception ValueError KeyError IndexError LookupError"
+    " ZeroDivisionError NotImplemented".split()
+)
+METHODS = set(
+    "append clear copy count endswith extend find get index insert isalnum isalpha isdigit islower isspace isupper items"
+    " join keys ljust lower lstrip partition pop remove replace reverse rfind rjust rpartition rsplit rstrip setdefault"
+    " split splitlines startswith strip update upper values zfill bit_length add discard".split()
+)
+SPECIAL_METHODS = set(
+    "__init__ __eq__ __repr__ __str__ __len__ __enter__ __exit__ __call__ __iter__ __lt__ __le__ __gt__ __ge__ __ne__"
+    " __add__ __sub__ __mul__ __and__ __or__ __xor__ __neg__ __invert__ __bool__ __contains__ __getitem__".split()
+)
+FORBIDDEN_WORDS = set(
+    "type typing typing_extensions enum Enum IntEnum StrEnum Flag IntFlag Generic Protocol ABC ABCMeta namedtuple"
+    " NamedTuple TypedDict TYPE_CHECKING abstractmethod".split()
+)
+FORBIDDEN_NAMES = set("register mro elements open input law version_info with_traceback add_note".split())
+FORBIDDEN_NODES = (
+    ast.AsyncFunctionDef, ast.AsyncFor, ast.AsyncWith, ast.Await, ast.Global, ast.Div, ast.MatMult, ast.GeneratorExp,
+    ast.NamedExpr,
+)
+INTERFACE = {
+    "errors": [
+        "SpanError", "PatternFault", "TemplateFault", "BadTree", "UnknownGroup", "NotRegular", "NotPlain",
+        "StreamClosed", "OutOfSteps", "TooManyStates", "TooManyAnswers", "NoSuchText",
+    ],
+    "alphabet": ["rank", "precedes", "next_text", "texts_up_to"],
+    "signsets": ["SignSet"],
+    "cells": ["cells", "cell_of", "least_signs"],
+    "trees": [
+        "check_tree", "children", "paths", "node_at", "with_node", "is_regular", "is_plain", "group_names",
+    ],
+    "measures": ["size", "depth", "weight", "length_bounds", "first_signs", "needed_signs"],
+    "reading": ["read_pattern"],
+}
+CLASS_METHODS = {
+    "SignSet": [
+        "__init__", "between", "members", "least", "ranges", "__or__", "__and__", "__sub__", "__invert__",
+        "__contains__", "__len__", "__iter__", "__eq__", "within",
+    ],
+}
+
+
+def nodes_of(kind):
+    for stem, tree in TREES.items():
+        for node in ast.walk(tree):
+            if isinstance(node, kind):
+                yield stem, node
+
+
+def defined(tree):
+    """Return the names that a module binds itself, not by an import."""
+    names = []
+    for node in tree.body:
+        if isinstance(node, (ast.FunctionDef, ast.ClassDef)):
+            names.append(node.name)
+        elif isinstance(node, ast.Assign):
+            names.extend(target.id for target in node.targets)
+    return names
+
+
+def imports(tree):
+    return [node for node in tree.body if isinstance(node, ast.ImportFrom)]
+
+
+def bound_in(function):
+    """Return the names of the parameters and the local variables of a function."""
+    names = [arg.arg for node in ast.walk(function) if isinstance(node, ast.arguments)
+             for arg in node.posonlyargs + node.args + node.kwonlyargs]
+    return names + [n.id for n in ast.walk(function) if isinstance(n, ast.Name) and not isinstance(n.ctx, ast.Load)]
+
+
+class TextTest(unittest.TestCase):
+    def test_the_folder_holds_plain_files_only(self):
+        for path in PACKAGE.rglob("*"):
+            if "__pycache__" not in path.parts:
+                self.assertTrue(path.suffix == ".py" and path.parent == PACKAGE, "L1 " + str(path))
+                self.assertRegex(path.stem, "^(__init__|[a-z][a-z0-9_]*)$", "L14")
+                self.assertFalse(path.stem in vars(builtins), "L14 " + path.stem)
+
+    def test_sizes_and_characters(self):
+        for path in FILES:
+            text = path.read_text()
+            lines = text.split("\n")
+            self.assertLess(len(lines), 400, "L10 " + path.name)
+            for number, line in enumerate(lines, 1):
+                place = "{}:{}".format(path.name, number)
+                self.assertLessEqual(len(line), 120, "L10 " + place)
+                self.assertTrue(all(" " <= sign <= "~" for sign in line), "L14 " + place)
+        for stem, node in nodes_of(ast.FunctionDef):
+            self.assertLessEqual(node.end_lineno - node.lineno + 1, 40, "L10 " + stem + "." + node.name)
+
+    def test_no_warnings(self):
+        for path in FILES:
+            with warnings.catch_warnings():
+                warnings.simplefilter("error")
+                compile(path.read_text(), str(path), "exec")
+
+    def test_strings(self):
+        docstrings = [
+            node.body[0].value for kind in (ast.Module, ast.ClassDef, ast.FunctionDef) for _, node in nodes_of(kind)
+            if node.body and isinstance(node.body[0], ast.Expr)
+        ]
+        for stem, node in nodes_of(ast.Constant):
+            place = "{}:{}".format(stem, node.lineno)
+            self.assertNotIsInstance(node.value, (float, complex), "L7 " + place)
+            if isinstance(node.value, str) and node not in docstrings:
+                self.assertNotIn("%", node.value, "L27 " + place)
+                self.assertTrue(set(re.findall(r"\w+", node.value)).isdisjoint(FORBIDDEN_WORDS), "L17 " + place)
+
+
+class ModuleTest(unittest.TestCase):
+    def test_module_level(self):
+        for stem, tree in TREES.items():
+            for node in tree.body[1:]:
+                allowed = (ast.ImportFrom, ast.FunctionDef, ast.ClassDef, ast.Assign)
+                self.assertIsInstance(node, allowed, "L3 {}:{}".format(stem, node.lineno))
+                if isinstance(node, ast.Assign):
+                    self.assertTrue(len(node.targets) == 1 and isinstance(node.targets[0], ast.Name), "L3 " + stem)
+                    ast.literal_eval(node.value)
+            self.assertIsInstance(tree.body[0].value.value, str, stem)
+            names = defined(tree) + [alias.name for node in imports(tree) for alias in node.names]
+            self.assertEqual(len(names), len(set(names)), "L15 " + stem)
+
+    def test_imports_name_the_file_that_defines_the_name(self):
+        for stem, node in nodes_of((ast.Import, ast.ImportFrom)):
+            self.assertIsInstance(node, ast.ImportFrom, "L16 " + stem)
+            self.assertTrue(node.module.startswith("surespan.") and node.level == 0, "L2 " + stem)
+            for alias in node.names:
+                self.assertIsNone(alias.asname, "L16 " + stem)
+                self.assertIn(alias.name, defined(TREES[node.module.split(".")[1]]), "L16 " + stem)
+
+    def test_imports_are_used_and_have_no_cycles(self):
+        below = {stem: [node.module.split(".")[1] for node in imports(tree)] for stem, tree in TREES.items()}
+        while below:
+            free = [stem for stem in below if not any(other in below for other in below[stem])]
+            self.assertTrue(free, "L16 " + str(sorted(below)))
+            below = {stem: below[stem] for stem in below if stem not in free}
+        for stem, tree in TREES.items():
+            read = {node.id for node in ast.walk(tree) if isinstance(node, ast.Name)}
+            for node in imports(tree):
+                self.assertLessEqual({alias.name for alias in node.names}, read, stem)
+
+    def test_the_interface_stands_in_its_files(self):
+        for stem, names in INTERFACE.items():
+            found = [n.name for n in TREES[stem].body if isinstance(n, (ast.FunctionDef, ast.ClassDef))]
+            self.assertLessEqual(set(names), set(found), "L16 " + stem)
+        for stem, node in nodes_of(ast.ClassDef):
+            found = {method.name for method in node.body if isinstance(method, ast.FunctionDef)}
+            self.assertLessEqual(set(CLASS_METHODS.get(node.name, [])), found, "L5 " + node.name)
+
+
+class CodeTest(unittest.TestCase):
+    def test_statements_and_expressions(self):
+        for stem, node in nodes_of(FORBIDDEN_NODES):
+            self.fail("L6 or L7 {}:{} {}".format(stem, getattr(node, "lineno", "?"), type(node).__name__))
+        for stem, node in nodes_of((ast.Set, ast.SetComp)):
+            self.fail("L24 {}:{}".format(stem, node.lineno))
+        for stem, node in nodes_of(ast.Compare):
+            for operator, right in zip(node.ops, node.comparators):
+                if isinstance(operator, (ast.Is, ast.IsNot)):
+                    self.assertIsInstance(right, ast.Constant, "L20 {}:{}".format(stem, node.lineno))
+
+    def test_decorators_and_special_methods(self):
+        for stem, node in nodes_of(ast.FunctionDef):
+            written = [ast.unparse(decorator) for decorator in node.decorator_list]
+            self.assertIn(written, [[], ["property"], ["staticmethod"], ["classmethod"]], "L5 " + stem)
+            if node.name.startswith("__"):
+                self.assertIn(node.name, SPECIAL_METHODS, "L5 " + stem)
+
+    def test_builtins(self):
+        for stem, tree in TREES.items():
+            own = set(defined(tree)) | {alias.name for node in imports(tree) for alias in node.names}
+            for node in ast.walk(tree):
+                if isinstance(node, ast.Name) and node.id in vars(builtins):
+                    self.assertIn(node.id, BUILTINS, "L8 {}:{}".format(stem, node.lineno))
+                if isinstance(node, (ast.FunctionDef, ast.ClassDef)):
+                    self.assertFalse(node.name in vars(builtins), "L15 {}.{}".format(stem, node.name))
+                if isinstance(node, ast.FunctionDef):
+                    for name in bound_in(node):
+                        self.assertFalse(name in vars(builtins), "L15 {}.{} {}".format(stem, node.name, name))
+                        self.assertNotIn(name, own, "L15 {}.{}".format(stem, node.name))
+
+    def test_names(self):
+        for stem, tree in TREES.items():
+            for node in ast.walk(tree):
+                for field in ("id", "name", "attr", "arg"):
+                    name = getattr(node, field, None)
+                    if isinstance(name, str):
+                        self.assertNotIn(name, FORBIDDEN_NAMES | FORBIDDEN_WORDS, "L17 " + stem)
+                        self.assertRegex(name, "^(__[a-z]+__|_?[A-Za-z][A-Za-z0-9_]*|_)$", "L12 " + stem)
+
+    def test_methods(self):
+        own = {node.name for _, node in nodes_of(ast.FunctionDef)}
+        for stem, node in nodes_of(ast.Call):
+            if isinstance(node.func, ast.Attribute):
+                place = "L25 {}:{} {}".format(stem, node.lineno, node.func.attr)
+                self.assertIn(node.func.attr, METHODS | own, place)
+
+    def test_sets_stand_only_in_sorted_and_len(self):
+        for stem, tree in TREES.items():
+            inner = [
+                arg for node in ast.walk(tree)
+                if isinstance(node, ast.Call) and isinstance(node.func, ast.Name) and node.func.id in ("sorted", "len")
+                for arg in node.args
+            ]
+            for node in ast.walk(tree):
+                if isinstance(node, ast.Call) and isinstance(node.func, ast.Name) and node.func.id == "set":
+                    self.assertIn(node, inner, "L24 {}:{}".format(stem, node.lineno))
+
+    def test_attributes_are_assigned_somewhere(self):
+        known = {node.name for _, node in nodes_of(ast.FunctionDef)} | METHODS
+        known |= {node.attr for _, node in nodes_of(ast.Attribute) if isinstance(node.ctx, ast.Store)}
+        for stem, node in nodes_of(ast.Attribute):
+            self.assertIn(node.attr, known, "L18 {}:{}".format(stem, node.lineno))
+
+
+if __name__ == "__main__":
+    unittest.main()
