@@ -22,15 +22,13 @@ def children(tree):
 
 
 def with_children(tree, below):
-    """Return the root with the tuple `below` in place of its children."""
+    """Return the root, which has children, with the tuple `below` in place of them."""
     kind = tree[0]
     if kind in ("seq", "alt"):
         return (kind, below)
     if kind == "repeat":
         return (kind,) + below + tree[2:]
-    if kind in ("group", "look"):
-        return tree[:-1] + below
-    return tree
+    return tree[:-1] + below
 
 
 def places(tree, path, in_look):
