@@ -28,11 +28,15 @@ class SignSet:
     def ranges(self):
         """The list of the pairs (first sign, last sign) of the runs, in ascending order."""
         found = []
-        for sign in self._members:
-            if found and rank(sign) == rank(found[-1][1]) + 1:
+        in_run = False
+        for sign in SIGNS:
+            if sign not in self._members:
+                in_run = False
+            elif in_run:
                 found[-1] = (found[-1][0], sign)
             else:
                 found.append((sign, sign))
+                in_run = True
         return found
 
     def within(self, other):

@@ -232,6 +232,38 @@ class CodeTest(unittest.TestCase):
         for stem, node in nodes_of(ast.Attribute):
             self.assertIn(node.attr, known, "L18 {}:{}".format(stem, node.lineno))
 
+    def test_properties_and_operators_call_nothing_that_an_object_may_hold(self):
+        stored = {node.attr for _, node in nodes_of(ast.Attribute) if isinstance(node.ctx, ast.Store)}
+        self.assertIn("index", stored)
+        waiting = [(stem, node, node) for stem, node in nodes_of(ast.FunctionDef) if is_read_by_signs(node)]
+        self.assertTrue(waiting)
+        known = []
+        while waiting:
+            stem, function, root = waiting.pop()
+            for call in [node for node in ast.walk(function) if isinstance(node, ast.Call)]:
+                place = "L5 {}.{}, for {}".format(stem, function.name, root.name)
+                self.assertIsInstance(call.func, (ast.Name, ast.Attribute), place)
+                called = call.func.id if isinstance(call.func, ast.Name) else call.func.attr
+                self.assertNotIn(called, stored if isinstance(call.func, ast.Attribute) else bound_in(function), place)
+                below = [(stem, node, root) for stem, node in own_functions(called) if node not in known]
+                known.extend(node for _, node, _ in below)
+                waiting.extend(below)
+
+
+def is_read_by_signs(function):
+    """Tell whether a property, an operator or the like is defined here: what is run without a plain call."""
+    decorators = [ast.unparse(decorator) for decorator in function.decorator_list]
+    return "property" in decorators or function.name in SPECIAL_METHODS - {"__init__", "__enter__", "__exit__"}
+
+
+def own_functions(name):
+    """Return the functions and methods of the package with this name, and the constructors of such a class."""
+    found = [(stem, node) for stem, node in nodes_of(ast.FunctionDef) if node.name == name]
+    for stem, node in nodes_of(ast.ClassDef):
+        if node.name == name:
+            found.extend((stem, method) for method in node.body if getattr(method, "name", None) == "__init__")
+    return found
+
 
 if __name__ == "__main__":
     unittest.main()
