@@ -1,10 +1,11 @@
-"""The signs of the notation, and how single signs of it are read."""
+"""The signs of the notation, and how single signs of it are read and written."""
 
 from surespan.errors import PatternFault
 
 SPECIAL_SIGNS = "\\|*+?<>()[]{}.~^"
 BRACKET_SPECIALS = "\\[]^-"
 ESCAPED = {"n": "\n", "t": "\t"}
+ESCAPES = {"\n": "\\n", "\t": "\\t"}
 
 
 def demand(text, index, allowed):
@@ -21,3 +22,10 @@ def read_escape(text, index, allowed):
     """
     sign = demand(text, index + 1, allowed + "nt")
     return ESCAPED.get(sign, sign), index + 2
+
+
+def write_sign(sign, specials):
+    """Return the written form of a sign; those of the text `specials` are written as escapes."""
+    if sign in specials:
+        return "\\" + sign
+    return ESCAPES.get(sign, sign)

@@ -1,7 +1,7 @@
 """Pattern trees: their nodes, their paths and the rules that they keep."""
 
 from surespan.alphabet import is_set_text
-from surespan.errors import BadTree, NotPlain
+from surespan.errors import BadTree, NotPlain, NotRegular
 from surespan.names import is_name
 
 EDGE_KINDS = ("start", "end", "line start", "line end", "word edge", "no word edge")
@@ -126,10 +126,30 @@ def is_plain(tree):
     return all([node[0] not in ("same", "look", "edge") for node in nodes(tree)])
 
 
+def need_regular(tree):
+    """Raise NotRegular if the tree is not regular."""
+    if not is_regular(tree):
+        raise NotRegular()
+
+
 def need_plain(tree):
     """Raise NotPlain if the tree is not plain."""
     if not is_plain(tree):
         raise NotPlain()
+
+
+def must_read(tree):
+    """Return True if each way of the tree surely reads a sign; False if one might read none."""
+    kind = tree[0]
+    if kind == "set":
+        return True
+    if kind == "seq":
+        return any([must_read(part) for part in tree[1]])
+    if kind == "alt":
+        return all([must_read(branch) for branch in tree[1]])
+    if kind == "repeat":
+        return tree[2] > 0 and must_read(tree[1])
+    return kind == "group" and must_read(tree[2])
 
 
 def group_names(tree):

@@ -96,6 +96,47 @@ class Growing:
         return look(self.grow(depth, True), side, self.chance.random() < 0.5)
 
 
+class Dense(Growing):
+    """Makes trees with few names and signs and with many repeats, lazy ones and ones that can read nothing too."""
+
+    def grow(self, depth, in_look):
+        leaves = ["set"] * 7 + ["empty"] + (["edge"] if "edge" in self.kinds else [])
+        if "same" in self.kinds and self.groups and not in_look:
+            leaves += ["same"] * 4
+        choices = ["seq", "seq", "alt", "repeat", "repeat", "repeat"] + ([] if in_look else ["group"])
+        if "look" in self.kinds and not in_look:
+            choices += ["look"]
+        if depth <= 1 or self.chance.random() < 0.1:
+            choices = leaves
+        return getattr(self, "grow_" + self.chance.choice(choices))(depth - 1, in_look)
+
+    def grow_set(self, depth, in_look):
+        return ("set", self.chance.choice(["a"] * 5 + ["ab"] * 5 + ["b", "b", "", "\na"]))
+
+    def grow_repeat(self, depth, in_look):
+        numbers = [(0, None)] * 6 + [(0, 1)] * 3 + [
+            (1, None), (2, None), (0, 0), (1, 1), (1, 2), (1, 3), (2, 2), (0, 2), (0, 3), (2, 3),
+        ]
+        least, most = self.chance.choice(numbers)
+        return repeat(self.grow(depth, in_look), least, most, self.chance.random() < 0.4)
+
+    def grow_group(self, depth, in_look):
+        name = self.chance.choice(["x", "y"])
+        self.groups.append(name)
+        return group(name, self.grow(depth, in_look))
+
+
+def dense_cases(seed, count, kinds=("look", "edge", "same"), depths=(4, 5, 5, 6)):
+    """Yield triples of a tree, a short text and an index of the text, always the same ones for one seed."""
+    growing = Dense(seed, kinds=kinds)
+    for _ in range(count):
+        tree = growing.tree(growing.chance.choice(depths))
+        chance = growing.chance
+        signs = chance.choice(["a", "a", "aaab", "aab\n b"])
+        text = "".join(chance.choice(signs) for _ in range(chance.randrange(7)))
+        yield tree, text, min(chance.randrange(len(text) + 1), chance.randrange(len(text) + 1))
+
+
 def trees_of_each_form():
     """Return well-formed trees that show each form and each of its fields."""
     return [

@@ -4,9 +4,17 @@ import unittest
 
 from surespan.alphabet import SIGNS, texts_up_to
 from surespan.cells import cell_of, cells, least_signs
+from surespan.charts import chart_of
+from surespan.derivations import derivations, derive
+from surespan.meaning import accepts, first_answer, first_way, outcomes
+from surespan.reading import read_pattern
+from surespan.replaying import earlier, replay
 from surespan.signsets import SignSet
+from surespan.steps import compile_steps
 from surespan.trees import group_names, node_at, paths, with_node
-from tests.samples import A, B, group, seq
+from surespan.walking import each_way, walk_answer, walk_cost, walk_way
+from surespan.writing import write_pattern
+from tests.samples import A, B, group, seq, trees_of_each_form
 
 TREE = seq(group("y", A), group("x", B), group("y", B))
 
@@ -29,6 +37,13 @@ class ReturnedListsTest(unittest.TestCase):
         self.check_new(lambda: cells([]))
         self.check_new(lambda: paths(TREE))
         self.check_new(lambda: group_names(TREE))
+
+    def test_returned_lists_of_outcomes_are_new(self):
+        row = (("x", 0, 1),)
+        self.check_new(lambda: outcomes(read_pattern("{as y:a*}"), "aa"))
+        self.check_new(lambda: outcomes(read_pattern("a|"), "aa", 1, row))
+        self.check_new(lambda: outcomes(read_pattern("[]"), "aa"))
+        self.check_new(lambda: outcomes(read_pattern("()"), ""))
 
     def test_a_division_is_not_the_argument(self):
         sets = [SIGNS]
@@ -65,6 +80,29 @@ class ArgumentsTest(unittest.TestCase):
         with_node(TREE, (), B)
         node_at(TREE, (1,))
         self.assertEqual(repr(TREE), before)
+
+    def test_trees_and_derivations_stay_as_they_were_on_texts(self):
+        text, row = "aaab", (("q", 0, 1), ("x", 1, 2))
+        for tree in trees_of_each_form() + [read_pattern("({as x:a?}{same x}|{behind:a}b)*")]:
+            before = repr((tree, row))
+            outcomes(tree, text, 1, row)
+            calls = [first_way(tree, text), first_answer(tree, text), accepts(tree, text), write_pattern(tree)]
+            calls += [compile_steps(tree), walk_way(tree, text), walk_answer(tree, text), walk_cost(tree, text)]
+            calls += [list(each_way(tree, text)), derive(tree, text)]
+            told = list(derivations(tree, text))
+            told_before = repr(told)
+            calls += [replay(tree, text, 0, below) for below in told]
+            calls += [earlier(tree, told[0], below) for below in told]
+            self.assertEqual(repr((tree, row)), before)
+            self.assertEqual(repr(told), told_before)
+
+    def test_repeated_calls_return_the_same(self):
+        tree = read_pattern("({as x:a?}b|{ahead:a}.)*")
+        for call in (outcomes, first_way, first_answer, walk_way, walk_cost, derive):
+            self.assertEqual(call(tree, "abaab"), call(tree, "abaab"))
+        for call in (compile_steps, chart_of, write_pattern):
+            self.assertEqual(call(tree), call(tree))
+            self.assertIsInstance(call(tree), (tuple, str))
 
     def test_generators_do_not_share_their_state(self):
         first, second = texts_up_to("ab", 2), texts_up_to("ab", 2)

@@ -49,7 +49,14 @@ INTERFACE = {
         "check_tree", "children", "paths", "node_at", "with_node", "is_regular", "is_plain", "group_names",
     ],
     "measures": ["size", "depth", "weight", "length_bounds", "first_signs", "needed_signs"],
+    "writing": ["write_set", "write_pattern"],
     "reading": ["read_pattern"],
+    "meaning": ["edge_holds", "outcomes", "first_way", "first_answer", "accepts"],
+    "steps": ["compile_steps"],
+    "walking": ["walk_way", "walk_answer", "walk_cost", "each_way"],
+    "derivations": ["derivations", "derive"],
+    "replaying": ["replay", "earlier"],
+    "charts": ["chart_of"],
 }
 CLASS_METHODS = {
     "SignSet": [
@@ -231,6 +238,12 @@ class CodeTest(unittest.TestCase):
         known |= {node.attr for _, node in nodes_of(ast.Attribute) if isinstance(node.ctx, ast.Store)}
         for stem, node in nodes_of(ast.Attribute):
             self.assertIn(node.attr, known, "L18 {}:{}".format(stem, node.lineno))
+
+    def test_no_name_is_both_a_method_and_an_attribute(self):
+        stored = {node.attr for _, node in nodes_of(ast.Attribute) if isinstance(node.ctx, ast.Store)}
+        for stem, node in nodes_of(ast.ClassDef):
+            for method in node.body:
+                self.assertNotIn(getattr(method, "name", None), stored, "L18 " + stem)
 
     def test_properties_and_operators_call_nothing_that_an_object_may_hold(self):
         stored = {node.attr for _, node in nodes_of(ast.Attribute) if isinstance(node.ctx, ast.Store)}
