@@ -25,7 +25,7 @@ def chart_of(tree):
 
 def looks_of(plan):
     """Return the list of the pairs (side, chart) for the looks of a plan."""
-    return [(side, chart_of(body)) for side, body in plan.looks]
+    return [(side, chart_of(body)) for side, body in list(plan.looks)]
 
 
 class MoveFinder:
