@@ -1,8 +1,9 @@
 """The ways of a tree on a text, and their order."""
 
 from surespan.alphabet import WORD_SIGNS
-from surespan.plans import END, Plan, meeting_tasks, needed_marks
+from surespan.plans import END, Plan, followers, meeting_tasks, needed_marks
 from surespan.rows import captured_text, copy_end, with_span
+from surespan.trees import is_regular
 
 # Stands in place of a task number in an entry of a search that is met when a state has been left for good.
 LEFT = -1
@@ -52,6 +53,8 @@ class Search:
         # How often a way has been found, or a state met again that leads to one.
         self.hits = 0
         self.findings = {}
+        # For a regular tree all bits are 1 here: its dead states depend on the index alone, and so they are enough.
+        self.hopeful = [-1] * len(self.plan.tasks) if is_regular(tree) else self.hopeful_indexes()
 
     def begin(self, index, row):
         """Begin to search for the ways from an index and a row, when no others are left."""
@@ -77,7 +80,7 @@ class Search:
         marks = tuple([self.value_of(mark, starts, row) for mark in self.needed[number]])
         place = (number, still, marks)
         bit = 1 << index
-        if self.dead.get(place, 0) & bit:
+        if self.dead.get(place, 0) & bit or not self.hopeful[number] & bit:
             return False
         if self.distinct:
             place_with_row = (number, still, starts, row)
@@ -138,6 +141,48 @@ class Search:
             side, body = self.plan.looks[number]
             self.findings[number] = look_findings(side, body, self.text)
         return self.findings[number][index]
+
+    def hopeful_indexes(self):
+        """Return a list with the indexes, as bits of a number, from which each task may lead to the end of a way.
+
+        From no other index does it do so, even if each `same` could read any text and no iteration had to move.
+        """
+        tasks = self.plan.tasks
+        passable = [self.passable_indexes(task) for task in tasks]
+        hopeful = [0] * len(tasks)
+        hopeful[END] = passable[END]
+        changed = True
+        while changed:
+            changed = False
+            for number, task in enumerate(tasks):
+                bits = hopeful[number]
+                for after in followers(task):
+                    bits = bits | (indexes_before(task, hopeful[after]) & passable[number])
+                if bits != hopeful[number]:
+                    hopeful[number] = bits
+                    changed = True
+        return hopeful
+
+    def passable_indexes(self, task):
+        """Return the indexes at which a task is passable, as bits of a number."""
+        return sum([1 << index for index in range(len(self.text) + 1) if self.is_passable(task, index)])
+
+    def is_passable(self, task, index):
+        """Return False if a task surely lets no way go on at the index, whatever has been read and captured before."""
+        if task[0] == "end":
+            return self.goal in (None, index)
+        if task[0] == "set":
+            return index < len(self.text) and self.text[index] in task[1]
+        return task[0] not in ("edge", "look") or self.may_pass(task, index, False)
+
+
+def indexes_before(task, bits):
+    """Return the indexes from which a task may lead to those for which `bits` stands, as bits of a number."""
+    if task[0] == "set":
+        return bits >> 1
+    if task[0] == "same":
+        return (1 << bits.bit_length()) - 1
+    return bits
 
 
 def look_findings(side, body, text):

@@ -34,7 +34,8 @@ CAPTURING = [
 ]
 REPEATING = [
     "{as x:a+}{same x}b", "({as x:a}{same x}|a)*b", "{as x:a+}({same x}|b)*c", "{as x:a}({same x}|{same x})*b",
-    "({as x:a|aa}{as y:a})*b", "({as x:a?}{same x}*)*b",
+    "({as x:a|aa}{as y:a})*b", "({as x:a?}{same x}*)*b", "{as x:a*}{as y:a*}{same x}{same y}b",
+    "{as x:a*}({as y:a*}{same x}|{as z:a*}{same y}|{same z})*b", "{as x:.+}.*{same x}!",
 ]
 # Trees with 60 nodes, with a depth of 12 and with a weight of 60.
 BOUNDS = [
@@ -77,6 +78,9 @@ class SpeedTest(unittest.TestCase):
             self.assertIsNone(derive(tree, LONG), pattern)
             self.assertEqual(outcomes(tree, LONG), [])
         self.assertEqual(first_way(read_pattern("{as x:a+}{same x}"), LONG, whole=True), (300, (("x", 0, 150),)))
+        # These fail only because the captured text does not stand there once more.
+        for pattern in ("{as x:ba}(a|a)*{same x}", "{as x:b{as y:a*}}(a|{same y})*{same x}", "{as x:.*b}(a*)*{same x}"):
+            self.assertIsNone(first_answer(read_pattern(pattern), "b" + LONG[:298]), pattern)
 
     def test_derivations(self):
         for pattern in PATTERNS + LOOKING + CAPTURING:
