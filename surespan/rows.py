@@ -21,3 +21,13 @@ def copy_end(row, text, name, index):
     if wanted is None or not text.startswith(wanted, index):
         return None
     return index + len(wanted)
+
+
+def with_marks(row, slots, marks, index):
+    """Return the row and the slots, a dict with an index for each slot, after these marks at the index."""
+    for mark in marks:
+        if mark[0] == "store":
+            slots = {**slots, mark[1]: index}
+        else:
+            row = with_span(row, mark[2], slots[mark[1]], index)
+    return row, slots

@@ -232,3 +232,44 @@ def first_of_each_end(pairs):
     for end, row in pairs:
         found.setdefault(end, row)
     return list(found.items())
+
+
+def begun_lists(chart, text, index):
+    """Return the list of the tuples of places to which begun walks lead, index by index: point [40]."""
+    found = []
+    begun_walks(chart, text, index, 0, 0, found)
+    return [tuple(places) for places in found]
+
+
+def begun_walks(chart, text, i, place, done, found):
+    """Go through the begun walks in their order; note in `found` where they stand when `done` signs are read."""
+    places, looks = chart
+    if len(found) == done:
+        found.append([])
+    if place not in found[done]:
+        found[done].append(place)
+    for tests, _, target in places[place][1]:
+        if target != -1 and i < len(text) and text[i] in places[target][0]:
+            if all(does_hold(test, looks, text, i) for test in tests):
+                begun_walks(chart, text, i + 1, target, done + 1, found)
+
+
+def looks_there(side, tree, text):
+    """Return a list that tells for each index whether a look finds the tree there: point [26]."""
+    if side == "ahead":
+        return [any(True for _ in ways(tree, text, i, ())) for i in range(len(text) + 1)]
+    ends = [way[0] for start in range(len(text) + 1) for way in ways(tree, text, start, ())]
+    return [i in ends for i in range(len(text) + 1)]
+
+
+def result(tree, text, mode):
+    """Return the result (start, end, row) of a tree on a text in one of the three modes, or None: point [41]."""
+    if mode == "search":
+        return answer(tree, text)
+    way = first(tree, text, 0, mode == "whole")
+    return None if way is None else (0,) + way
+
+
+def end_order(tree, text):
+    """Return the list of the different ends of the ways from index 0, in the order in which they first occur."""
+    return list(dict.fromkeys(way[0] for way in ways(tree, text, 0, ())))

@@ -2,7 +2,10 @@
 
 import random
 
-from surespan.alphabet import SIGNS
+from surespan.alphabet import SIGNS, WORD_SIGNS
+from surespan.errors import BadTree
+from surespan.measures import weight
+from surespan.trees import check_tree, node_at, paths, with_node
 
 A, B, C = ("set", "a"), ("set", "b"), ("set", "c")
 EMPTY = ("empty",)
@@ -147,3 +150,56 @@ def trees_of_each_form():
         seq(group("x", A), same("x")), group("x", seq(A, same("x"))), group("x", group("x", B)),
         alt(group("x", A), group("y", B), group("x", C)),
     ] + [edge(kind) for kind in EDGE_KINDS]
+
+
+def changed_tree(growing, tree):
+    """Return a well-formed tree that differs from the given one in one node, most often only a little."""
+    chance = growing.chance
+    while True:
+        path = chance.choice(paths(tree))
+        node = node_at(tree, path)
+        kind = chance.randrange(6)
+        if kind == 0:
+            node = growing.grow(2, True)
+        elif kind == 1 and node[0] == "repeat":
+            node = node[:4] + (not node[4],)
+        elif kind == 2 and node[0] in ("seq", "alt"):
+            node = (node[0], tuple(chance.sample(node[1], len(node[1]))))
+        elif kind == 3:
+            node = group(chance.choice("xy"), node)
+        elif kind == 4:
+            node = alt(node, growing.grow(2, True))
+        elif kind == 5 and node[0] == "group":
+            node = node[2]
+        result = with_node(tree, path, node)
+        try:
+            check_tree(result)
+        except BadTree:
+            continue
+        return result
+
+
+def pairs_of_trees(seed, count, kinds=("look", "edge"), depths=(3, 4, 4, 5)):
+    """Yield pairs of regular trees that are more or less alike, always the same ones for one seed."""
+    growing = Dense(seed, kinds=kinds)
+    while count:
+        tree = growing.tree(growing.chance.choice(depths))
+        other = changed_tree(growing, tree)
+        if growing.chance.random() < 0.3:
+            other = changed_tree(growing, other)
+        if growing.chance.random() < 0.1:
+            other = growing.tree(growing.chance.choice(depths))
+        if weight(tree) <= 24 and weight(other) <= 24:
+            count -= 1
+            yield tree, other
+
+
+def telling_signs(*trees):
+    """Return a text with the least sign of each kind of signs that these trees can tell apart."""
+    sets = ["\n", WORD_SIGNS]
+    for tree in trees:
+        sets += [node[1] for node in (node_at(tree, path) for path in paths(tree)) if node[0] == "set"]
+    found = {}
+    for sign in SIGNS:
+        found.setdefault(tuple(sign in members for members in sets), sign)
+    return "".join(sorted(found.values()))

@@ -6,12 +6,19 @@ from surespan.alphabet import SIGNS, texts_up_to
 from surespan.cells import cell_of, cells, least_signs
 from surespan.charts import chart_of
 from surespan.derivations import derivations, derive
+from surespan.lanes import lane_answer, lane_lists, lane_way
+from surespan.looktables import look_table
 from surespan.meaning import accepts, first_answer, first_way, outcomes
+from surespan.mirroring import mirror, strip_groups
+from surespan.partings import parting, parting_from
 from surespan.reading import read_pattern
 from surespan.replaying import earlier, replay
+from surespan.residuals import Residual, residual_answer
 from surespan.signsets import SignSet
 from surespan.steps import compile_steps
-from surespan.trees import group_names, node_at, paths, with_node
+from surespan.tables import Table
+from surespan.treeafter import tree_after
+from surespan.trees import group_names, is_regular, node_at, paths, with_node
 from surespan.walking import each_way, walk_answer, walk_cost, walk_way
 from surespan.writing import write_pattern
 from tests.samples import A, B, group, seq, trees_of_each_form
@@ -44,6 +51,18 @@ class ReturnedListsTest(unittest.TestCase):
         self.check_new(lambda: outcomes(read_pattern("a|"), "aa", 1, row))
         self.check_new(lambda: outcomes(read_pattern("[]"), "aa"))
         self.check_new(lambda: outcomes(read_pattern("()"), ""))
+
+    def test_returned_lists_of_looks_and_lanes_are_new(self):
+        for text in ("", "ab", "aab"):
+            self.check_new(lambda: look_table("ahead", read_pattern("a*b"), text))
+            self.check_new(lambda: look_table("behind", read_pattern("a*b"), text))
+            self.check_new(lambda: lane_lists(read_pattern("a*b"), text))
+
+    def test_the_division_of_a_table_is_new_at_each_reading(self):
+        table = Table(read_pattern("[ab]c{word edge}"))
+        self.check_new(lambda: table.division)
+        self.assertEqual(table.answer("xac"), (1, 3, ()))
+        self.check_new(lambda: table.division)
 
     def test_a_division_is_not_the_argument(self):
         sets = [SIGNS]
@@ -95,6 +114,28 @@ class ArgumentsTest(unittest.TestCase):
             calls += [earlier(tree, told[0], below) for below in told]
             self.assertEqual(repr((tree, row)), before)
             self.assertEqual(repr(told), told_before)
+
+    def test_regular_trees_stay_as_they_were(self):
+        text = "aaab\n"
+        trees = [tree for tree in trees_of_each_form() if is_regular(tree)]
+        for tree in trees + [read_pattern("({as x:a?}{ahead:.}|{behind:a}b)*")]:
+            before = repr(tree)
+            for mode in ("search", "here", "whole"):
+                table = Table(tree, mode=mode)
+                calls = [table.answer(text), table.state_after(text), table.follow(0, "a"), table.complete(1000)]
+                calls += [residual_answer(tree, text, mode=mode), Residual(tree, mode=mode).after("a").answer()]
+            calls += [lane_lists(tree, text), lane_way(tree, text), lane_answer(tree, text, 1), mirror(tree)]
+            calls += [parting(tree, A, level=level) for level in ("whole", "span", "answer")]
+            calls += [parting_from(tree, A), strip_groups(tree)]
+            if "look" not in before and "edge" not in before:
+                calls.append(tree_after(tree, "a"))
+            self.assertEqual(repr(tree), before)
+
+    def test_a_table_and_its_answers_stay_apart(self):
+        table, other = Table(read_pattern("a*b")), Table(read_pattern("a*b"))
+        table.answer("aab")
+        self.assertEqual(other.states, 1)
+        self.assertEqual(table.answer("aab"), other.answer("aab"))
 
     def test_repeated_calls_return_the_same(self):
         tree = read_pattern("({as x:a?}b|{ahead:a}.)*")

@@ -57,12 +57,21 @@ INTERFACE = {
     "derivations": ["derivations", "derive"],
     "replaying": ["replay", "earlier"],
     "charts": ["chart_of"],
+    "looktables": ["look_table"],
+    "lanes": ["lane_lists", "lane_way", "lane_answer"],
+    "tables": ["Table"],
+    "residuals": ["Residual", "residual_answer"],
+    "treeafter": ["tree_after"],
+    "mirroring": ["mirror", "strip_groups"],
+    "partings": ["parting", "parting_from"],
 }
 CLASS_METHODS = {
     "SignSet": [
         "__init__", "between", "members", "least", "ranges", "__or__", "__and__", "__sub__", "__invert__",
         "__contains__", "__len__", "__iter__", "__eq__", "within",
     ],
+    "Table": ["__init__", "answer", "state_after", "follow", "complete", "states", "division"],
+    "Residual": ["__init__", "after", "answer", "length"],
 }
 
 

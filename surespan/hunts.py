@@ -1,0 +1,151 @@
+"""Hunts: the search for the least text on which some walks come to an end and others do not.
+
+A node of a hunt stands for what is asked of the rest of a text, behind the signs that have been read. It is a tuple
+(stage, pair, differing, wanted, barred). `wanted` and `barred` are masks of places: from each of the first ones a walk
+must come to an end, from none of the second ones. At the stage `SETTLED` nothing else is asked for. At other stages a
+hunt may also follow a pair of walks, which stand at the places of the tuple `pair` and must come to an end, too;
+`differing` is a mask of what is not the same for the two, and more of it makes a node easier.
+
+Texts are met in text order. A node is left out if one that was met before is easier: if it asks for nothing that the
+later one does not ask for, each text that fulfils the later one gives an earlier text that fulfils the earlier one.
+"""
+
+from surespan.grounds import BEGINNING, END
+from surespan.likeness import likeness
+from surespan.masks import bits_of, joined, mask_of
+
+SETTLED = 0
+
+
+def settled(wanted, barred):
+    """Return the node that asks for nothing but these places."""
+    return (SETTLED, (), 0, wanted, barred)
+
+
+class Hunt:
+    """A hunt on a ground."""
+
+    def __init__(self, ground):
+        self.ground = ground
+        mask = (1 << len(ground.signs)) - 2 - sum(ground.behind_masks)
+        self.below = likeness(ground, mask)
+        self.above = [
+            sum([1 << other for other in bits_of(mask) if self.below[other] >> place & 1])
+            for place in range(len(ground.signs))
+        ]
+        # For each kind of node, with what stands before the index, the triples (differing, wanted, barred) met so far.
+        self.met = {}
+
+    def least_text(self, nodes):
+        """Return the least text that fulfils one of the nodes, or None."""
+        found = self.least_end(nodes)
+        return None if found is None else found[0]
+
+    def least_end(self, nodes):
+        """Return the pair of the least text that fulfils one of the nodes and the first such node there, or None."""
+        bunches = [("", BEGINNING, 0, self.new_nodes(BEGINNING, 0, nodes))]
+        while bunches:
+            for text, context, behind, held in bunches:
+                view = self.ground.view_of_end(context, behind)
+                for node in held:
+                    if [after for after in self.nodes_after(node, view) if is_fulfilled(after)]:
+                        return text, node
+            bunches = [later for bunch in bunches for later in self.bunches_after(bunch)]
+        return None
+
+    def bunches_after(self, bunch):
+        """Return the list of the bunches (text, context, behind, nodes) for the texts with one sign more."""
+        text, context, behind, held = bunch
+        found = []
+        for cell, sign in enumerate(self.ground.leasts):
+            view = self.ground.view(context, behind, cell)
+            after_context = self.ground.contexts[cell]
+            after_behind = self.ground.behind_after(context, behind, cell)
+            reached = [after for node in held for after in self.nodes_after(node, view)]
+            kept = self.new_nodes(after_context, after_behind, reached)
+            if kept:
+                found.append((text + sign, after_context, after_behind, kept))
+        return found
+
+    def new_nodes(self, context, behind, nodes):
+        """Return the list of those nodes that can be fulfilled, as far as is seen, and are not left out."""
+        kept = []
+        for stage, pair, differing, wanted, barred in nodes:
+            asked = wanted | mask_of(pair)
+            closed = joined(barred, self.below)
+            if asked & closed:
+                continue
+            opened = joined(asked, self.above)
+            met = self.met.setdefault((context, behind, stage, pair), [])
+            if not [seen for seen in met if not (differing & ~seen[0] or seen[1] & ~opened or seen[2] & ~closed)]:
+                met.append((differing, opened, closed))
+                kept.append((stage, pair, differing, self.truly_wanted(wanted, asked), barred))
+        return kept
+
+    def truly_wanted(self, wanted, asked):
+        """Return the mask of wanted places without those from which walks end as soon as others of `asked` do so."""
+        found = 0
+        for place in bits_of(wanted):
+            others = self.below[place] & asked & ~(1 << place)
+            # Of places that are below each other, the first one is kept.
+            if not [other for other in bits_of(others) if other < place or not self.above[place] >> other & 1]:
+                found = found | 1 << place
+        return found
+
+    def nodes_after(self, node, view):
+        """Return the list of the nodes to which a node leads by what a view tells."""
+        return self.settled_after(node[3], node[4], view)
+
+    def settled_after(self, wanted, barred, view):
+        """Return the list of the settled nodes to which one with these places leads."""
+        found = []
+        for looks, more_wanted, more_barred in self.guesses(wanted | barred, view):
+            after_barred = view.reach_all(barred, looks) | more_barred
+            if not after_barred >> END & 1:
+                for after_wanted in self.choices(wanted, looks, view):
+                    found.append(settled(after_wanted | more_wanted, after_barred))
+        return found
+
+    def guesses(self, mask, view):
+        """Return the list of all that may be said of the open looks that the places of a mask ask for.
+
+        Each item is a triple: the mask of the looks that find their bodies, and the masks of the places from which a
+        walk must or must not come to an end for that behind the index.
+        """
+        found = [(0, 0, 0)]
+        for look in bits_of(view.asked(mask)):
+            begun = view.begun[look]
+            yes = [
+                (looks | 1 << look, wanted | 1 << place, barred)
+                for looks, wanted, barred in found for place in self.best(begun)
+            ]
+            found = [*yes, *[(looks, wanted, barred | begun) for looks, wanted, barred in found]]
+        return found
+
+    def choices(self, wanted, looks, view):
+        """Return the list of the masks of places behind the index that bring all wanted ones to an end.
+
+        It is empty if there is no way to do so. One place is chosen for each wanted one.
+        """
+        found = [0]
+        for place in bits_of(wanted):
+            reach = view.reach(place, looks)
+            if not reach >> END & 1:
+                best = self.best(reach)
+                found = list({chosen | 1 << target: True for chosen in found for target in best})
+        return found
+
+    def best(self, mask):
+        """Return the list of the places of a mask without those that are below another one of them."""
+        found = []
+        for place in bits_of(mask):
+            others = self.above[place] & mask & ~(1 << place)
+            # Of places that are below each other, the first one is kept.
+            if not [other for other in bits_of(others) if other < place or not self.below[place] >> other & 1]:
+                found.append(place)
+        return found
+
+
+def is_fulfilled(node):
+    """Return True if a node, reached at the end of a text, asks for nothing more, otherwise False."""
+    return node[0] == SETTLED and node[3] == 0
