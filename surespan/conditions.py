@@ -16,8 +16,12 @@ class Conditions:
     """The conditions on a ground."""
 
     def __init__(self, ground):
-        mask = (1 << len(ground.signs)) - (1 << ground.look_places)
+        self.width = len(ground.signs)
+        mask = (1 << self.width) - (1 << ground.look_places)
         self.below = likeness(ground, mask) if mask else []
+        # The masks of which a place is wanted have numbers; for each one the numbers of those that contain it.
+        self.numbers = {}
+        self.containing = []
 
     def normal(self, barred, wanted):
         """Return a condition that asks for the same as these masks, or None if no text can fulfil it.
@@ -58,14 +62,35 @@ class Conditions:
         more_wanted = [view.begun[look] for look in bits_of(must)]
         return self.normal(barred | joined(must_not, view.begun), [*wanted, *more_wanted])
 
+    # A condition implies another one if each text that fulfils it surely fulfils the other one, too. So it is if the
+    # mask of what the other one needs has nothing in it that is not in the mask of what this one grants.
 
-def implies(condition, other):
-    """Return True if each text that fulfils the condition surely fulfils the other one, too, otherwise False."""
-    barred, wanted = condition
-    other_barred, other_wanted = other
-    if other_barred & ~barred:
-        return False
-    for mask in other_wanted:
-        if not [inner for inner in wanted if not inner & ~(mask | barred)]:
-            return False
-    return True
+    def needs(self, condition):
+        """Return the mask of what must be granted so that the condition is implied."""
+        barred, wanted = condition
+        found = 0
+        for mask in wanted:
+            found = found | 1 << self.number_of_wanted(mask & ~barred)
+        return found << self.width | barred
+
+    def grants(self, condition):
+        """Return the mask of all that the condition grants."""
+        barred, wanted = condition
+        found = 0
+        for mask in wanted:
+            found = found | self.containing[self.number_of_wanted(mask & ~barred)]
+        return found << self.width | barred
+
+    def number_of_wanted(self, mask):
+        """Return the number of a mask of which a place is wanted; number it if it is new."""
+        if mask not in self.numbers:
+            number = len(self.numbers)
+            found = 1 << number
+            for other, other_number in self.numbers.items():
+                if not mask & ~other:
+                    found = found | 1 << other_number
+                if not other & ~mask:
+                    self.containing[other_number] = self.containing[other_number] | 1 << number
+            self.numbers[mask] = number
+            self.containing.append(found)
+        return self.numbers[mask]

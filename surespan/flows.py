@@ -8,7 +8,7 @@ before, marks) for each lane, tell how to go on with that. A walk that begins an
 """
 
 from surespan.charts import chart_of
-from surespan.conditions import NOTHING, Conditions, implies
+from surespan.conditions import NOTHING, Conditions
 from surespan.grounds import BEGINNING, END, Ground
 
 NEW = (-1, ())
@@ -29,12 +29,12 @@ class Flow:
         """Return the state behind one more sign, which is in the cell, and the origins of its lanes."""
         context, behind, lanes = state
         view = self.ground.view(context, behind, cell)
-        gathering = Gathering()
+        gathering = Gathering(self.conditions)
         for number, (place, barred, wanted) in enumerate(lanes):
             condition = self.conditions.after((barred, wanted), view)
             if condition is not None:
                 self.go_on(gathering, view, number, place, condition)
-        if self.searching and not gathering.settled:
+        if self.searching:
             gathering.put(self.first_lane[0], NOTHING, NEW)
         after_context = self.ground.contexts[cell]
         after_behind = self.ground.behind_after(context, behind, cell)
@@ -67,25 +67,22 @@ class Flow:
 class Gathering:
     """Gathers the lanes of a state in their order, without those that can make no difference."""
 
-    def __init__(self):
+    def __init__(self, conditions):
+        self.conditions = conditions
         self.lanes = []
         self.origins = []
-        # Whether a walk has come to an end for certain, so that no later one matters.
-        self.settled = False
-        # For each place, and for the end, the conditions of its lanes.
+        # For each place, and for the end, what the conditions of its lanes need.
         self.met = {}
 
     def put(self, place, condition, origin):
         """Add a lane, unless an earlier one ends, or goes on from the same place, whenever this one can."""
-        if self.settled:
-            return
-        for earlier in [*self.met.get(place, []), *self.met.get(END, [])]:
-            if implies(condition, earlier):
+        missing = ~self.conditions.grants(condition)
+        for earlier in [*self.met.get(END, []), *self.met.get(place, [])]:
+            if not earlier & missing:
                 return
-        self.met.setdefault(place, []).append(condition)
+        self.met.setdefault(place, []).append(self.conditions.needs(condition))
         self.lanes.append((place,) + condition)
         self.origins.append(origin)
-        self.settled = place == END and condition == NOTHING
 
 
 def trimmed(context, behind, lanes):

@@ -221,6 +221,7 @@ class View:
         self.lost = ~(self.found | open_looks)
         self.known = {}
         self.reaches = {}
+        self.kept_bundles = {}
 
     def begun_by(self, number):
         """Return the mask of the targets that the walks of a look ahead from here lead to; 0 for a look behind."""
@@ -237,6 +238,15 @@ class View:
                     kept.append((must & ~self.found, must_not & ~self.lost, marks, target))
             self.known[place] = without_idle(kept)
         return list(self.known[place])
+
+    def bundles(self, place):
+        """Return the list of the triples (looks that must find, looks that must not, targets) of a place."""
+        if place not in self.kept_bundles:
+            found = {}
+            for must, must_not, _, target in self.options(place):
+                found[must, must_not] = found.get((must, must_not), 0) | 1 << target
+            self.kept_bundles[place] = [(must, must_not, found[must, must_not]) for must, must_not in found]
+        return list(self.kept_bundles[place])
 
     def asked(self, mask):
         """Return the mask of the open looks that the places of a mask ask for."""

@@ -33,23 +33,20 @@ class Hunt:
             sum([1 << other for other in bits_of(mask) if self.below[other] >> place & 1])
             for place in range(len(ground.signs))
         ]
-        # For each kind of node, with what stands before the index, the triples (differing, wanted, barred) met so far.
+        # The looks behind that places ask for, on the way to an end: those that must find, and those that must not.
+        self.asked_behind = self.find_asked_behind()
+        # For each kind of node what `is_new` needs of those met so far.
         self.met = {}
 
     def least_text(self, nodes):
         """Return the least text that fulfils one of the nodes, or None."""
-        found = self.least_end(nodes)
-        return None if found is None else found[0]
-
-    def least_end(self, nodes):
-        """Return the pair of the least text that fulfils one of the nodes and the first such node there, or None."""
         bunches = [("", BEGINNING, 0, self.new_nodes(BEGINNING, 0, nodes))]
         while bunches:
             for text, context, behind, held in bunches:
                 view = self.ground.view_of_end(context, behind)
                 for node in held:
                     if [after for after in self.nodes_after(node, view) if is_fulfilled(after)]:
-                        return text, node
+                        return text
             bunches = [later for bunch in bunches for later in self.bunches_after(bunch)]
         return None
 
@@ -70,17 +67,60 @@ class Hunt:
     def new_nodes(self, context, behind, nodes):
         """Return the list of those nodes that can be fulfilled, as far as is seen, and are not left out."""
         kept = []
-        for stage, pair, differing, wanted, barred in nodes:
+        for node in nodes:
+            stage, pair, differing, wanted, barred = node
             asked = wanted | mask_of(pair)
             closed = joined(barred, self.below)
             if asked & closed:
                 continue
+            helping, hurting = self.roles_behind(stage, wanted, barred)
+            # For looks that may help and hurt, it must be the same what stands before the index.
+            kind = (context, stage, pair, helping, hurting, behind & helping & hurting)
             opened = joined(asked, self.above)
-            met = self.met.setdefault((context, behind, stage, pair), [])
-            if not [seen for seen in met if not (differing & ~seen[0] or seen[1] & ~opened or seen[2] & ~closed)]:
-                met.append((differing, opened, closed))
+            demands = self.demands_of(differing, closed, behind & hurting, helping & ~behind)
+            if is_new(self.met.setdefault(kind, {}), opened, demands):
                 kept.append((stage, pair, differing, self.truly_wanted(wanted, asked), barred))
         return kept
+
+    def demands_of(self, differing, closed, hurting, not_helping):
+        """Return a mask of what makes a node hard to fulfil, but for its wanted places: with less in it, it is easier.
+
+        From no place in the mask `closed` a walk may come to an end. In the places of looks behind in `hurting` walks
+        stand, and in those in `not_helping` none do.
+        """
+        demands = ~differing
+        for mask in (closed, hurting, not_helping):
+            demands = demands << len(self.ground.signs) | mask
+        return demands
+
+    def find_asked_behind(self):
+        """Return two lists with the masks of places of looks behind that must find, and must not, for each place."""
+        masks = self.ground.behind_masks
+        finding = [0] * len(self.ground.moves)
+        missing = [0] * len(self.ground.moves)
+        changed = True
+        while changed:
+            changed = False
+            for place, moves in enumerate(self.ground.moves):
+                before = (finding[place], missing[place])
+                for _, must, must_not, _, target in moves:
+                    finding[place] = finding[place] | joined(must, masks) | finding[target]
+                    missing[place] = missing[place] | joined(must_not, masks) | missing[target]
+                changed = changed or before != (finding[place], missing[place])
+        return finding, missing
+
+    def roles_behind(self, stage, wanted, barred):
+        """Return the masks of the places of looks behind where walks help to fulfil a node, and where they hurt.
+
+        Where it is not known which, places are in both masks.
+        """
+        if stage != SETTLED:
+            every = sum(self.ground.behind_masks)
+            return every, every
+        finding, missing = self.asked_behind
+        helping = joined(wanted, finding) | joined(barred, missing)
+        hurting = joined(wanted, missing) | joined(barred, finding)
+        return helping, hurting
 
     def truly_wanted(self, wanted, asked):
         """Return the mask of wanted places without those from which walks end as soon as others of `asked` do so."""
@@ -144,6 +184,22 @@ class Hunt:
             if not [other for other in bits_of(others) if other < place or not self.below[place] >> other & 1]:
                 found.append(place)
         return found
+
+
+def is_new(met, opened, demands):
+    """Return True if no node in `met` is easier than one with these demands; put it there if so.
+
+    `met` is a dict from masks to lists of demands: the mask, and likewise `opened`, has the places from which walks
+    come to an end if the node is fulfilled.
+    """
+    absent = ~demands
+    for earlier_opened, held in met.items():
+        if not earlier_opened & ~opened:
+            for earlier in held:
+                if not earlier & absent:
+                    return False
+    met.setdefault(opened, []).append(demands)
+    return True
 
 
 def is_fulfilled(node):

@@ -5,7 +5,6 @@ from surespan.grounds import Ground
 from surespan.hunts import Hunt, settled
 from surespan.lanes import lane_answer
 from surespan.pairhunts import SEEKING, WAITING, PairHunt
-from surespan.trees import need_regular
 
 
 def parting(tree, other, *, level="answer"):
@@ -13,8 +12,6 @@ def parting(tree, other, *, level="answer"):
 
     Raises NotRegular.
     """
-    need_regular(tree)
-    need_regular(other)
     charts = [chart_of(tree), chart_of(other)]
     if level == "whole":
         ground = Ground(charts, whole=True)
@@ -28,8 +25,6 @@ def parting_from(tree, other):
 
     Raises NotRegular.
     """
-    need_regular(tree)
-    need_regular(other)
     ground = Ground([chart_of(tree), chart_of(other)])
     text = PairHunt(ground, with_rows=True).least_text([(WAITING, (), 0, 0, 0)])
     if text is None:

@@ -59,8 +59,6 @@ class Table:
                     raise TooManyStates(limit)
                 self._target(state, cell)
             state = state + 1
-        if len(self._met) > limit:
-            raise TooManyStates(limit)
         return len(self._met)
 
     def _target(self, state, cell):

@@ -3,7 +3,9 @@
 import random
 
 from surespan.alphabet import SIGNS, WORD_SIGNS
+from surespan.cells import cells
 from surespan.errors import BadTree
+from surespan.machines import Machine
 from surespan.measures import weight
 from surespan.trees import check_tree, node_at, paths, with_node
 
@@ -203,3 +205,11 @@ def telling_signs(*trees):
     for sign in SIGNS:
         found.setdefault(tuple(sign in members for members in sets), sign)
     return "".join(sorted(found.values()))
+
+
+def random_machine(chance, states, most_cells=4):
+    """Return a machine with this number of states, made at random."""
+    sets = ["".join(sorted(chance.sample("\n ab", chance.randrange(4)))) for _ in range(chance.randrange(3))]
+    division = tuple(cells(sets)) if len(cells(sets)) <= most_cells else tuple(cells([]))
+    rows = tuple(tuple(chance.randrange(states) for _ in division) for _ in range(states))
+    return Machine(division, rows, tuple(chance.random() < 0.4 for _ in range(states)))

@@ -2,18 +2,24 @@
 
 import unittest
 
+from surespan.acceptance import least_accepted, least_answered, least_refused, outside, shared
 from surespan.alphabet import SIGNS, texts_up_to
 from surespan.cells import cell_of, cells, least_signs
 from surespan.charts import chart_of
 from surespan.derivations import derivations, derive
+from surespan.exchanges import end_list, list_parting
 from surespan.lanes import lane_answer, lane_lists, lane_way
+from surespan.leastmachine import least_machine, minimized
 from surespan.looktables import look_table
+from surespan.machineops import both, either, opposite, part_text, reach_text, without
+from surespan.machinetree import tree_of
 from surespan.meaning import accepts, first_answer, first_way, outcomes
 from surespan.mirroring import mirror, strip_groups
 from surespan.partings import parting, parting_from
 from surespan.reading import read_pattern
 from surespan.replaying import earlier, replay
 from surespan.residuals import Residual, residual_answer
+from surespan.rules import winner, winning_text
 from surespan.signsets import SignSet
 from surespan.steps import compile_steps
 from surespan.tables import Table
@@ -57,6 +63,11 @@ class ReturnedListsTest(unittest.TestCase):
             self.check_new(lambda: look_table("ahead", read_pattern("a*b"), text))
             self.check_new(lambda: look_table("behind", read_pattern("a*b"), text))
             self.check_new(lambda: lane_lists(read_pattern("a*b"), text))
+
+    def test_returned_end_lists_are_new(self):
+        for text in ("", "ab", "aab"):
+            self.check_new(lambda: end_list(read_pattern("{as x:a*}b*"), text))
+        self.check_new(lambda: end_list(read_pattern("[]"), "a"))
 
     def test_the_division_of_a_table_is_new_at_each_reading(self):
         table = Table(read_pattern("[ab]c{word edge}"))
@@ -130,6 +141,33 @@ class ArgumentsTest(unittest.TestCase):
             if "look" not in before and "edge" not in before:
                 calls.append(tree_after(tree, "a"))
             self.assertEqual(repr(tree), before)
+
+    def test_lists_of_trees_stay_as_they_were(self):
+        trees = [read_pattern("a+"), read_pattern("{as x:a|b}"), read_pattern("{ahead:.}[^]*")]
+        kept = list(trees)
+        calls = [winner(trees, text) for text in ("", "a", "b", "ab")]
+        calls += [winning_text(trees, number) for number in (-1, 0, 1, 2, 3)]
+        self.assertTrue(len(trees) == 3 and all(tree is other for tree, other in zip(trees, kept)))
+        self.assertEqual(len(calls), 9)
+
+    def test_trees_stay_as_they_were_in_questions_about_all_texts(self):
+        for tree in trees_of_each_form():
+            if is_regular(tree):
+                before = repr(tree)
+                calls = [least_accepted(tree), least_refused(tree), least_answered(tree), least_machine(tree)]
+                calls += [outside(tree, A), outside(A, tree), shared(tree, B)]
+                if "look" not in before and "edge" not in before:
+                    calls += [end_list(tree, "ab"), list_parting(tree, A), list_parting(A, tree)]
+                self.assertEqual(repr(tree), before)
+
+    def test_machines_stay_as_they_were(self):
+        machine, other = least_machine(read_pattern("a*b|c")), least_machine(read_pattern("[b-d]*"))
+        before = [(one.cells, one.rows, one.accepting) for one in (machine, other)]
+        calls = [minimized(machine), opposite(machine), tree_of(machine), tree_of(other)]
+        calls += [call(machine, other) for call in (both, either, without)]
+        calls += [reach_text(machine, 2), part_text(machine, 0, 1), machine.accepts("ab"), machine.state_after("ab")]
+        calls += [machine == other, len(machine)]
+        self.assertEqual([(one.cells, one.rows, one.accepting) for one in (machine, other)], before)
 
     def test_a_table_and_its_answers_stay_apart(self):
         table, other = Table(read_pattern("a*b")), Table(read_pattern("a*b"))

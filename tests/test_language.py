@@ -64,6 +64,13 @@ INTERFACE = {
     "treeafter": ["tree_after"],
     "mirroring": ["mirror", "strip_groups"],
     "partings": ["parting", "parting_from"],
+    "acceptance": ["least_accepted", "least_refused", "least_answered", "outside", "shared"],
+    "rules": ["winner", "winning_text"],
+    "exchanges": ["end_list", "list_parting"],
+    "machines": ["Machine"],
+    "leastmachine": ["minimized", "least_machine"],
+    "machineops": ["opposite", "both", "either", "without", "reach_text", "part_text"],
+    "machinetree": ["tree_of"],
 }
 CLASS_METHODS = {
     "SignSet": [
@@ -72,6 +79,7 @@ CLASS_METHODS = {
     ],
     "Table": ["__init__", "answer", "state_after", "follow", "complete", "states", "division"],
     "Residual": ["__init__", "after", "answer", "length"],
+    "Machine": ["__init__", "accepts", "state_after", "__len__", "__eq__"],
 }
 
 

@@ -86,6 +86,10 @@ class TreeAfterTest(unittest.TestCase):
             if reference.few_ways(tree, "aaaa") is not None:
                 self.check(tree, "a", ["", "a", "aa", "aaa"], reference.end_order)
 
+    def test_parts_that_match_nothing_are_left_out(self):
+        self.assertEqual(tree_after(read_pattern("a[]|ab"), "a"), B)
+        self.assertEqual(tree_after(read_pattern("a[]|b"), "a"), NOTHING)
+
     def test_again_and_again_on_its_own_results(self):
         growing = Dense(453, kinds=())
         signs = growing.chance
