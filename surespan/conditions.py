@@ -17,7 +17,7 @@ class Conditions:
 
     def __init__(self, ground):
         self.width = len(ground.signs)
-        mask = (1 << self.width) - (1 << ground.look_places)
+        mask = (1 << self.width) - (1 << ground.look_places) - sum(ground.behind_masks)
         self.below = likeness(ground, mask) if mask else []
         # The masks of which a place is wanted have numbers; for each one the numbers of those that contain it.
         self.numbers = {}

@@ -4,9 +4,6 @@ from surespan.charts import STOP, chart_of
 from surespan.looktables import Passage
 from surespan.rows import with_marks
 
-# What stands on a lane at the place where walks begin: no walk has captured anything there.
-NO_CAPTURES = ((), {})
-
 
 def lane_lists(tree, text, index=0):
     """Return the list of the tuples of the places in which begun walks from the index stand, index by index."""
@@ -44,11 +41,11 @@ def answer_of_lanes(chart, text, index, whole, anywhere):
     too, behind all walks from earlier ones.
     """
     passage = Passage(chart, text)
-    lanes = {0: (index,) + NO_CAPTURES}
+    lanes = {0: (index, (), {})}
     best = None
     for at in range(index, len(text) + 1):
         if anywhere and best is None:
-            lanes[0] = (at,) + NO_CAPTURES
+            lanes[0] = (at, (), {})
         lanes, ended = lanes_after(passage, lanes, at, not whole or at == len(text))
         if ended is not None:
             best = ended

@@ -54,9 +54,10 @@ class Passage:
             table = chart_table(side, body, text)
             self.truths["look", number, True] = table
             self.truths["look", number, False] = [not found for found in table]
-        for test in [test for _, moves in self.places for tests, _, _ in moves for test in tests]:
-            if test not in self.truths:
-                self.truths[test] = [edge_holds(test[1], text, index) for index in range(len(text) + 1)]
+        asked = [test for _, moves in self.places for tests, _, _ in moves for test in tests]
+        for edge in asked:
+            if edge not in self.truths:
+                self.truths[edge] = [edge_holds(edge[1], text, index) for index in range(len(text) + 1)]
         # The open moves, and the masks of their targets, by the tests that hold; the readers by the sign.
         self.kept_moves = {}
         self.kept_masks = {}

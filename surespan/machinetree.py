@@ -29,13 +29,13 @@ class PathTrees:
         for state in self.remaining:
             for cell, target in enumerate(machine.rows[state]):
                 if target in self.remaining:
-                    self.add((state, target), ("set", machine.cells[cell]), 1)
+                    self.put((state, target), ("set", machine.cells[cell]), 1)
             if machine.accepting[state]:
-                self.add((state, LAST), EMPTY, 0)
+                self.put((state, LAST), EMPTY, 0)
         if 0 in self.remaining:
-            self.add((FIRST, 0), EMPTY, 0)
+            self.put((FIRST, 0), EMPTY, 0)
 
-    def add(self, pair, tree, cost):
+    def put(self, pair, tree, cost):
         """Let the texts of one more tree lead from the first state of a pair to the second one."""
         if pair in self.trees:
             tree = choice_of(self.trees[pair], tree)
@@ -74,7 +74,7 @@ class PathTrees:
             for target in targets:
                 tree = chain_of(chain_of(self.trees[source, state], staying), self.trees[state, target])
                 cost = self.costs[source, state] + staying_cost + self.costs[state, target]
-                self.add((source, target), tree, cost)
+                self.put((source, target), tree, cost)
         for pair in list(self.trees):
             if state in pair:
                 del self.trees[pair]

@@ -6,7 +6,7 @@ from surespan.hunts import SETTLED, Hunt, settled
 
 # At this stage the first ways of the two trees from one index are followed.
 PAIRED = 1
-# At this stage no walk from an index since the start index has been let come to an end.
+# At this stage the answers have not begun: walks from all indexes passed since the start index are barred.
 SEEKING = 2
 # At this stage the start index has not been reached.
 WAITING = 3

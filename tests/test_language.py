@@ -160,6 +160,7 @@ class ModuleTest(unittest.TestCase):
                 if isinstance(node, ast.Assign):
                     self.assertTrue(len(node.targets) == 1 and isinstance(node.targets[0], ast.Name), "L3 " + stem)
                     ast.literal_eval(node.value)
+                    self.assertFalse(holds_a_list_or_dict(node.value), "L15 {}:{}".format(stem, node.lineno))
             self.assertIsInstance(tree.body[0].value.value, str, stem)
             names = defined(tree) + [alias.name for node in imports(tree) for alias in node.names]
             self.assertEqual(len(names), len(set(names)), "L15 " + stem)
@@ -278,6 +279,11 @@ class CodeTest(unittest.TestCase):
                 below = [(stem, node, root) for stem, node in own_functions(called) if node not in known]
                 known.extend(node for _, node, _ in below)
                 waiting.extend(below)
+
+
+def holds_a_list_or_dict(value):
+    """Tell whether there is a list or a dict inside of a list, a dict or a tuple that is written out."""
+    return any(isinstance(node, (ast.List, ast.Dict)) for node in ast.walk(value) if node is not value)
 
 
 def is_read_by_signs(function):

