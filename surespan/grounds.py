@@ -23,7 +23,7 @@ class Ground:
     """
 
     def __init__(self, charts, *, whole=False):
-        self.whole = whole
+        self.ends_last = whole
         self.signs = [""]
         # For each place its moves (kinds of edges, looks that must find, looks that must not find, marks, target).
         self.moves = [()]
@@ -90,7 +90,7 @@ class Ground:
         if self.looks[number][0] == "ahead":
             return 0
         first = self.look_firsts[number]
-        return mask_of(range(first, first + len(self.looks[number][1][0])))
+        return mask_of(list(range(first, first + len(self.looks[number][1][0]))))
 
     def find_cells(self):
         """Return a division in which the signs of a cell are not told apart by any place or edge."""
@@ -135,7 +135,7 @@ class Ground:
         if not self.alive >> target & 1:
             return False
         at_end = following == len(self.cell_texts)
-        if target == END and self.whole and place < self.look_places and not at_end:
+        if target == END and self.ends_last and place < self.look_places and not at_end:
             return False
         if target != END and (at_end or not self.reading[following] >> target & 1):
             return False

@@ -64,7 +64,7 @@ def least_path(machine, first, step, is_goal):
     waiting = [(first, "")]
     while waiting:
         later = []
-        for place, text in waiting:
+        for place, text in list(waiting):
             if is_goal(place):
                 return text
             for cell, signs in enumerate(machine.cells):

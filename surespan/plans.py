@@ -40,11 +40,11 @@ class Plan:
         if kind == "empty":
             return after
         if kind == "seq":
-            for part in reversed(tree[1]):
+            for part in reversed(list(tree[1])):
                 after = self.link(part, after, slot)
             return after
         if kind == "alt":
-            firsts = [self.link(branch, after, slot) for branch in reversed(tree[1])]
+            firsts = [self.link(branch, after, slot) for branch in reversed(list(tree[1]))]
             return self.put(("choice", tuple(firsts[::-1])))
         if kind == "repeat":
             return self.link_repeat(tree, after, slot)

@@ -281,6 +281,117 @@ class CodeTest(unittest.TestCase):
                 waiting.extend(below)
 
 
+class LoopTest(unittest.TestCase):
+    def test_ranges_zips_and_views_are_iterated_on_the_spot(self):
+        for stem, tree in TREES.items():
+            above = {below: node for node in ast.walk(tree) for below in ast.iter_child_nodes(node)}
+            for node in ast.walk(tree):
+                if is_range_or_view(node):
+                    place = "L23 {}:{} {}".format(stem, node.lineno, ast.unparse(node))
+                    self.assertTrue(is_iterated_by(above[node], node), place)
+
+    def test_what_a_loop_walks_is_not_changed_in_it(self):
+        for stem, function in nodes_of(ast.FunctionDef):
+            groups = names_for_one_thing(function)
+            for walked, rows in loops_of(function):
+                names = [name for name in walked_names(walked)]
+                names += [other for name in names for group in groups if name in group for other in group]
+                for node in rows:
+                    changed = set(changed_names(node)) & set(names)
+                    self.assertFalse(changed, "L23 {}:{} {}".format(stem, node.lineno, sorted(changed)))
+
+    def test_reversed_takes_a_copy(self):
+        # Beside a class with `__getitem__`.
+        for stem, node in nodes_of(ast.Call):
+            if isinstance(node.func, ast.Name) and node.func.id == "reversed":
+                inner = node.args[0]
+                called = inner.func.id if isinstance(inner, ast.Call) and isinstance(inner.func, ast.Name) else None
+                self.assertIn(called, ("list", "tuple", "sorted", "range"), "L5 {}:{}".format(stem, node.lineno))
+
+
+def is_range_or_view(node):
+    """Tell whether this is a call of `range`, `zip`, `enumerate`, `reversed`, `items`, `keys` or `values`."""
+    if not isinstance(node, ast.Call):
+        return False
+    if isinstance(node.func, ast.Name):
+        return node.func.id in ("range", "zip", "enumerate", "reversed")
+    return isinstance(node.func, ast.Attribute) and node.func.attr in ("items", "keys", "values")
+
+
+def is_iterated_by(parent, node):
+    """Tell whether what stands directly around a range, a zip or a view iterates over it on the spot."""
+    if isinstance(parent, (ast.For, ast.comprehension)):
+        return parent.iter is node
+    if isinstance(parent, ast.Compare):
+        return isinstance(parent.ops[0], (ast.In, ast.NotIn))
+    if not isinstance(parent, ast.Call) or not isinstance(parent.func, ast.Name) or parent.args[0] is not node:
+        return False
+    if parent.func.id in ("len", "reversed"):
+        return getattr(node.func, "id", None) == "range"
+    return parent.func.id in ("list", "tuple", "dict", "sorted", "sum", "any", "all", "enumerate", "zip", "min", "max")
+
+
+def loops_of(function):
+    """Return the pairs of what a loop or a comprehension of the function walks, and the list of its rows."""
+    found = []
+    for node in ast.walk(function):
+        if isinstance(node, ast.For):
+            found.append((node.iter, node.body))
+        elif isinstance(node, (ast.ListComp, ast.DictComp, ast.SetComp)):
+            rows = [node.key, node.value] if isinstance(node, ast.DictComp) else [node.elt]
+            found.extend((inner.iter, rows) for inner in node.generators)
+    return found
+
+
+def walked_names(walked):
+    """Return the names and fields that are walked themselves, not only a copy of them."""
+    if isinstance(walked, ast.IfExp):
+        return walked_names(walked.body) + walked_names(walked.orelse)
+    if isinstance(walked, ast.BoolOp):
+        return [name for value in walked.values for name in walked_names(value)]
+    if isinstance(walked, ast.Call):
+        if isinstance(walked.func, ast.Name) and walked.func.id in ("enumerate", "zip", "reversed"):
+            return [name for value in walked.args for name in walked_names(value)]
+        if isinstance(walked.func, ast.Attribute) and walked.func.attr in ("items", "keys", "values"):
+            return walked_names(walked.func.value)
+        return []
+    return [ast.unparse(walked)] if isinstance(walked, (ast.Name, ast.Attribute)) else []
+
+
+def names_for_one_thing(function):
+    """Return the sets of names and fields that plain assignments of the function may let mean the same thing."""
+    groups = []
+    for node in ast.walk(function):
+        if isinstance(node, ast.Assign):
+            pairs = [(target, node.value) for target in node.targets]
+            if isinstance(node.value, ast.Tuple) and isinstance(node.targets[0], ast.Tuple):
+                pairs = list(zip(node.targets[0].elts, node.value.elts))
+            for target, value in pairs:
+                if isinstance(target, (ast.Name, ast.Attribute)) and isinstance(value, (ast.Name, ast.Attribute)):
+                    group = {ast.unparse(target), ast.unparse(value)}
+                    for other in [other for other in groups if other & group]:
+                        groups.remove(other)
+                        group |= other
+                    groups.append(group)
+    return groups
+
+
+CHANGING = set("append clear extend insert pop remove reverse setdefault update add discard sort".split())
+
+
+def changed_names(row):
+    """Return the names and fields that a row changes: by a method, an item or `del`, also of an own method's list."""
+    found = []
+    for node in ast.walk(row):
+        if isinstance(node, ast.Call) and isinstance(node.func, ast.Attribute) and node.func.attr in CHANGING:
+            found.append(ast.unparse(node.func.value))
+        elif isinstance(node, ast.Subscript) and not isinstance(node.ctx, ast.Load):
+            found.append(ast.unparse(node.value))
+        elif isinstance(node, ast.AugAssign):
+            found.append(ast.unparse(node.target))
+    return found
+
+
 def holds_a_list_or_dict(value):
     """Tell whether there is a list or a dict inside of a list, a dict or a tuple that is written out."""
     return any(isinstance(node, (ast.List, ast.Dict)) for node in ast.walk(value) if node is not value)
