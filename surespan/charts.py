@@ -10,7 +10,11 @@ STOP = -1
 def chart_of(tree):
     """Return the chart (places, looks) of a regular tree; raise NotRegular for another tree."""
     need_regular(tree)
-    finder = MoveFinder(Plan(tree))
+    return chart_by(MoveFinder(Plan(tree)))
+
+
+def chart_by(finder):
+    """Return the chart with the moves that a finder finds."""
     tasks = finder.plan.tasks
     # A plan is made from the end of its tree, so the last task is the first one to be met.
     readers = [number for number in range(len(tasks) - 1, END, -1) if tasks[number][0] == "set"]

@@ -125,9 +125,12 @@ class Ground:
         """
         key = (place, context, following)
         if key not in self.known:
-            open_moves = [move[1:] for move in self.moves[place] if self.may_move(place, move, context, following)]
-            self.known[key] = without_idle(open_moves)
+            self.known[key] = without_idle(self.open_moves(place, context, following))
         return list(self.known[key])
+
+    def open_moves(self, place, context, following):
+        """Return the list of the moves of a place as `options` does, but with those that are idle."""
+        return [move[1:] for move in self.moves[place] if self.may_move(place, move, context, following)]
 
     def may_move(self, place, move, context, following):
         """Return True if a move may be taken as far as signs and edges go, otherwise False."""
@@ -220,6 +223,7 @@ class View:
         open_looks = mask_of([number for number in ahead if self.begun[number]])
         self.lost = ~(self.found | open_looks)
         self.known = {}
+        self.kept_ways = {}
         self.reaches = {}
         self.kept_bundles = {}
 
@@ -232,12 +236,23 @@ class View:
     def options(self, place):
         """Return the list of the moves of a place as `Ground.options` does, in which only open looks are left."""
         if place not in self.known:
-            kept = []
-            for must, must_not, marks, target in self.ground.options(place, self.context, self.following):
-                if not must & self.lost and not must_not & self.found:
-                    kept.append((must & ~self.found, must_not & ~self.lost, marks, target))
-            self.known[place] = without_idle(kept)
+            moves = self.ground.options(place, self.context, self.following)
+            self.known[place] = without_idle(self.with_open_looks(moves))
         return list(self.known[place])
+
+    def ways_on(self, place):
+        """Return the list of the moves of a place as `options` does, but with those that are idle."""
+        if place not in self.kept_ways:
+            moves = self.ground.open_moves(place, self.context, self.following)
+            self.kept_ways[place] = self.with_open_looks(moves)
+        return list(self.kept_ways[place])
+
+    def with_open_looks(self, moves):
+        """Return the list of those moves that may be taken, as far as is seen, in which only open looks are left."""
+        return [
+            (must & ~self.found, must_not & ~self.lost, marks, target) for must, must_not, marks, target in moves
+            if not must & self.lost and not must_not & self.found
+        ]
 
     def bundles(self, place):
         """Return the list of the triples (looks that must find, looks that must not, targets) of a place."""

@@ -139,21 +139,21 @@ class Hunt:
     def settled_after(self, wanted, barred, view):
         """Return the list of the settled nodes to which one with these places leads."""
         found = []
-        for looks, more_wanted, more_barred in self.guesses(wanted | barred, view):
+        for looks, more_wanted, more_barred in self.guesses(view.asked(wanted | barred), view):
             after_barred = view.reach_all(barred, looks) | more_barred
             if not after_barred >> END & 1:
                 for after_wanted in self.choices(wanted, looks, view):
                     found.append(settled(after_wanted | more_wanted, after_barred))
         return found
 
-    def guesses(self, mask, view):
-        """Return the list of all that may be said of the open looks that the places of a mask ask for.
+    def guesses(self, asked, view):
+        """Return the list of all that may be said of the open looks in the mask `asked`.
 
         Each item is a triple: the mask of the looks that find their bodies, and the masks of the places from which a
         walk must or must not come to an end for that behind the index.
         """
         found = [(0, 0, 0)]
-        for look in bits_of(view.asked(mask)):
+        for look in bits_of(asked):
             begun = view.begun[look]
             yes = [
                 (looks | 1 << look, wanted | 1 << place, barred)

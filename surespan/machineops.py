@@ -30,14 +30,20 @@ def combined(machine, other, joining):
 
     `joining` tells from what the two say of a text whether the result accepts it.
     """
-    division = cells([*machine.cells, *other.cells])
-    numbers = [cell_of(machine.cells, cell[0]) for cell in division]
-    other_numbers = [cell_of(other.cells, cell[0]) for cell in division]
+    division, numbers, other_numbers = common_division(machine, other)
     return minimized(machine_of(
         division, (0, 0),
         lambda pair, cell: (machine.rows[pair[0]][numbers[cell]], other.rows[pair[1]][other_numbers[cell]]),
         lambda pair: joining(machine.accepting[pair[0]], other.accepting[pair[1]]),
     ))
+
+
+def common_division(machine, other):
+    """Return the division of the cells of two machines, and for each of its cells the number of the cell of each."""
+    division = cells([*machine.cells, *other.cells])
+    numbers = [cell_of(machine.cells, cell[0]) for cell in division]
+    other_numbers = [cell_of(other.cells, cell[0]) for cell in division]
+    return division, numbers, other_numbers
 
 
 def reach_text(machine, state):

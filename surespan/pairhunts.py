@@ -47,25 +47,26 @@ class PairHunt(Hunt):
         """Return the list of the nodes to which one leads that follows the first ways of both trees."""
         _, (first, second), differing, wanted, barred = node
         found = []
-        for looks, more_wanted, more_barred in self.guesses(wanted | barred | 1 << first | 1 << second, view):
+        asked = view.asked(wanted | barred | 1 << first | 1 << second)
+        for looks, more_wanted, more_barred in self.guesses(asked, view):
             after_barred = view.reach_all(barred, looks) | more_barred
             if not after_barred >> END & 1:
                 picked = [
                     (pick, other) for pick in picks(first, looks, view) for other in picks(second, looks, view)
                 ]
                 for after_wanted in self.choices(wanted, looks, view):
-                    asked = (after_wanted | more_wanted, after_barred)
-                    found.extend([after for pair in picked for after in self.followed(differing, asked, pair)])
+                    masks = (after_wanted | more_wanted, after_barred)
+                    found.extend([after for pair in picked for after in self.followed(differing, masks, pair)])
         return found
 
-    def followed(self, differing, asked, picked):
+    def followed(self, differing, masks, picked):
         """Return the list of the node, if there is one, to which two picks of moves lead.
 
-        `asked` is the pair of the masks of the wanted and the barred places behind the index.
+        `masks` is the pair of the masks of the wanted and the barred places behind the index.
         """
         (target, better, marks), (other_target, other_better, other_marks) = picked
-        wanted = asked[0]
-        barred = asked[1] | better | other_better
+        wanted = masks[0]
+        barred = masks[1] | better | other_better
         pair = (target, other_target)
         if END in pair and pair != (END, END):
             # The way that goes on has another end.

@@ -8,24 +8,31 @@ from surespan.cells import cell_of, cells, least_signs
 from surespan.charts import chart_of
 from surespan.derivations import derivations, derive
 from surespan.exchanges import end_list, list_parting
+from surespan.growth import growth, pump
 from surespan.lanes import lane_answer, lane_lists, lane_way
 from surespan.leastmachine import least_machine, minimized
 from surespan.looktables import look_table
+from surespan.machinejoins import beginnings, joined, mirrored, quotient, starred
 from surespan.machineops import both, either, opposite, part_text, reach_text, without
 from surespan.machinetree import tree_of
 from surespan.meaning import accepts, first_answer, first_way, outcomes
 from surespan.mirroring import mirror, strip_groups
+from surespan.nearest import machine_within, nearest
 from surespan.partings import parting, parting_from
 from surespan.reading import read_pattern
 from surespan.replaying import earlier, replay
 from surespan.residuals import Residual, residual_answer
+from surespan.rewriting import simplify, simplify_steps
 from surespan.rules import winner, winning_text
 from surespan.signsets import SignSet
 from surespan.steps import compile_steps
 from surespan.tables import Table
+from surespan.textcounts import accepted_texts, count_texts, length_cycle, number_of, text_at
 from surespan.treeafter import tree_after
-from surespan.trees import group_names, is_regular, node_at, paths, with_node
+from surespan.trees import group_names, is_plain, is_regular, node_at, paths, with_node
+from surespan.twofold import twofold
 from surespan.walking import each_way, walk_answer, walk_cost, walk_way
+from surespan.waycounts import ways_row, whole_ways
 from surespan.writing import write_pattern
 from tests.samples import A, B, group, seq, trees_of_each_form
 
@@ -68,6 +75,14 @@ class ReturnedListsTest(unittest.TestCase):
         for text in ("", "ab", "aab"):
             self.check_new(lambda: end_list(read_pattern("{as x:a*}b*"), text))
         self.check_new(lambda: end_list(read_pattern("[]"), "a"))
+
+    def test_returned_numbers_of_ways_are_new(self):
+        for text in ("", "ab", "aab"):
+            self.check_new(lambda: ways_row(read_pattern("(a|a)*b?"), text))
+
+    def test_returned_lists_of_trees_are_new(self):
+        for pattern in ("a", "(a|b)|b|()", "[]*"):
+            self.check_new(lambda: simplify_steps(read_pattern(pattern)))
 
     def test_the_division_of_a_table_is_new_at_each_reading(self):
         table = Table(read_pattern("[ab]c{word edge}"))
@@ -138,8 +153,9 @@ class ArgumentsTest(unittest.TestCase):
             calls += [lane_lists(tree, text), lane_way(tree, text), lane_answer(tree, text, 1), mirror(tree)]
             calls += [parting(tree, A, level=level) for level in ("whole", "span", "answer")]
             calls += [parting_from(tree, A), strip_groups(tree)]
-            if "look" not in before and "edge" not in before:
-                calls.append(tree_after(tree, "a"))
+            calls += [ways_row(tree, text, 1), whole_ways(tree, text), twofold(tree), simplify(tree), simplify_steps(tree)]
+            if is_plain(tree):
+                calls += [tree_after(tree, "a"), growth(tree), pump(tree)]
             self.assertEqual(repr(tree), before)
 
     def test_lists_of_trees_stay_as_they_were(self):
@@ -166,7 +182,10 @@ class ArgumentsTest(unittest.TestCase):
         calls = [minimized(machine), opposite(machine), tree_of(machine), tree_of(other)]
         calls += [call(machine, other) for call in (both, either, without)]
         calls += [reach_text(machine, 2), part_text(machine, 0, 1), machine.accepts("ab"), machine.state_after("ab")]
-        calls += [machine == other, len(machine)]
+        calls += [machine == other, len(machine), joined(machine, other), starred(machine), mirrored(machine)]
+        calls += [beginnings(machine), quotient(machine, "a"), nearest(machine, "ba"), machine_within(machine, 2)]
+        calls += [count_texts(machine, 3), text_at(machine, 2), number_of(machine, "b"), length_cycle(machine)]
+        calls += list(accepted_texts(machine, 5))
         self.assertEqual([(one.cells, one.rows, one.accepting) for one in (machine, other)], before)
 
     def test_a_table_and_its_answers_stay_apart(self):

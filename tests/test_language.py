@@ -71,6 +71,13 @@ INTERFACE = {
     "leastmachine": ["minimized", "least_machine"],
     "machineops": ["opposite", "both", "either", "without", "reach_text", "part_text"],
     "machinetree": ["tree_of"],
+    "machinejoins": ["joined", "starred", "mirrored", "beginnings", "quotient"],
+    "nearest": ["nearest", "machine_within"],
+    "waycounts": ["ways_row", "whole_ways"],
+    "twofold": ["twofold"],
+    "growth": ["growth", "pump"],
+    "textcounts": ["count_texts", "text_at", "number_of", "accepted_texts", "length_cycle"],
+    "rewriting": ["simplify", "simplify_steps"],
 }
 CLASS_METHODS = {
     "SignSet": [
@@ -204,6 +211,13 @@ class CodeTest(unittest.TestCase):
                 if isinstance(operator, (ast.Is, ast.IsNot)):
                     self.assertIsInstance(right, ast.Constant, "L20 {}:{}".format(stem, node.lineno))
 
+    def test_lambdas_on_one_line_have_different_parameters(self):
+        met = set()
+        for stem, node in nodes_of(ast.Lambda):
+            key = (stem, node.lineno, tuple(arg.arg for arg in node.args.args))
+            self.assertNotIn(key, met, "L13")
+            met.add(key)
+
     def test_decorators_and_special_methods(self):
         for stem, node in nodes_of(ast.FunctionDef):
             written = [ast.unparse(decorator) for decorator in node.decorator_list]
@@ -259,9 +273,11 @@ class CodeTest(unittest.TestCase):
 
     def test_no_name_is_both_a_method_and_an_attribute(self):
         stored = {node.attr for _, node in nodes_of(ast.Attribute) if isinstance(node.ctx, ast.Store)}
-        for stem, node in nodes_of(ast.ClassDef):
-            for method in node.body:
-                self.assertNotIn(getattr(method, "name", None), stored, "L18 " + stem)
+        methods = {
+            (stem, method.name) for stem, node in nodes_of(ast.ClassDef) for method in node.body
+            if isinstance(method, ast.FunctionDef)
+        }
+        self.assertEqual([method for method in methods if method[1] in stored], [], "L18")
 
     def test_properties_and_operators_call_nothing_that_an_object_may_hold(self):
         stored = {node.attr for _, node in nodes_of(ast.Attribute) if isinstance(node.ctx, ast.Store)}
