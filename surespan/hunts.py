@@ -40,7 +40,10 @@ class Hunt:
 
     def least_text(self, nodes):
         """Return the least text that fulfils one of the nodes, or None."""
-        bunches = [("", BEGINNING, 0, self.new_nodes(BEGINNING, 0, nodes))]
+        return self.least_text_of([("", BEGINNING, 0, self.new_nodes(BEGINNING, 0, nodes))])
+
+    def least_text_of(self, bunches):
+        """Return the least text that goes on from one of the bunches, or None; they are in text order."""
         while bunches:
             for text, context, behind, held in bunches:
                 view = self.ground.view_of_end(context, behind)

@@ -74,6 +74,13 @@ class Search:
                     return state[1], state[4], state[5]
         return None
 
+    def first_way_from(self, index):
+        """Return the outcome of the first way from an index and the row (), or None; no other way is looked for."""
+        self.begin(index, ())
+        way = self.next_way()
+        self.stack = []
+        return None if way is None else way[:2]
+
     def enter(self, state):
         """Return True if it may find something new to go on from a state, otherwise False."""
         number, index, still, starts, row = state[:5]
@@ -216,20 +223,16 @@ def outcomes(tree, text, index=0, captures=()):
 
 def first_way(tree, text, index=0, *, whole=False):
     """Return the outcome (end, row) of the first way from the index, or of the first whole way, or None."""
-    search = Search(tree, text, whole=whole)
-    search.begin(index, ())
-    way = search.next_way()
-    return None if way is None else way[:2]
+    return Search(tree, text, whole=whole).first_way_from(index)
 
 
 def first_answer(tree, text, start=0):
     """Return the first answer (start, end, row) from the start index, or None."""
     search = Search(tree, text)
     for index in range(start, len(text) + 1):
-        search.begin(index, ())
-        way = search.next_way()
+        way = search.first_way_from(index)
         if way is not None:
-            return (index,) + way[:2]
+            return (index,) + way
     return None
 
 

@@ -1,8 +1,7 @@
 """Residuals: what is left of a tree after some signs of a text."""
 
-from surespan.flows import NEW, Flow
-from surespan.grounds import END
-from surespan.rows import with_marks
+from surespan.flows import Flow
+from surespan.loads import load_after, loads_behind, new_load
 from surespan.trees import need_regular
 
 
@@ -16,8 +15,8 @@ class Residual:
         # The flow is made when it is needed first; the residuals that follow share it.
         self._flow = None
         self._state = None
-        # For each lane of the state what its walk brings along: (start, end, row, slots); the end may still be None.
-        self._loads = [(0, None, (), {})]
+        # For each lane of the state what its walk brings along.
+        self._loads = [new_load(0)]
         self._length = 0
 
     def after(self, sign):
@@ -27,17 +26,14 @@ class Residual:
         later._flow = self._flow
         later._length = self._length + 1
         later._state, origins = self._flow.after(self._state, self._flow.cell_numbers[sign])
-        later._loads = [
-            (self._length + 1, None, (), {}) if origin == NEW else self._load_after(origin, lane[0] == END)
-            for lane, origin in zip(later._state[2], origins)
-        ]
+        later._loads = loads_behind(self._loads, later._state[2], origins, self._length)
         return later
 
     def answer(self):
         """Return the result (start, end, row) for the signs read so far, or None."""
         self._prepare()
         found = self._flow.result(self._state)
-        return None if found is None else self._load_after(found, True)[:3]
+        return None if found is None else load_after(self._loads, found, self._length, True)[:3]
 
     @property
     def length(self):
@@ -49,15 +45,6 @@ class Residual:
         if self._flow is None:
             self._flow = Flow(self._tree, self._mode)
             self._state = self._flow.first_state
-
-    def _load_after(self, origin, ends):
-        """Return what a walk brings along that goes on as an origin tells, and ends then, if it has not before."""
-        number, marks = origin
-        start, end, row, slots = self._loads[number]
-        row, slots = with_marks(row, slots, marks, self._length)
-        if ends and end is None:
-            end = self._length
-        return start, end, row, slots
 
 
 def residual_answer(tree, text, *, mode="search"):

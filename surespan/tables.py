@@ -1,7 +1,8 @@
 """Tables: the results of a tree on texts, with one look-up per sign."""
 
 from surespan.errors import TooManyStates
-from surespan.flows import NEW, Flow
+from surespan.flows import NEW
+from surespan.flowstates import FlowStates
 from surespan.grounds import END
 from surespan.rows import with_marks
 
@@ -10,19 +11,14 @@ class Table:
     """Reads texts sign by sign; `mode` is "search", "here" or "whole". Raises NotRegular."""
 
     def __init__(self, tree, *, mode="search"):
-        self._flow = Flow(tree, mode)
-        # The states of the flow by their numbers, and their numbers.
-        self._met = [self._flow.first_state]
-        self._numbers = {self._flow.first_state: 0}
-        # For each state and cell the number of the state behind it, and the origins of the lanes there.
-        self._targets = {}
-        self._origins = {}
-        self._results = {}
+        self._numbered = FlowStates(tree, mode)
+        self._flow = self._numbered.flow
+        self._numbered.number_of(self._flow.first_state)
 
     @property
     def states(self):
         """The number of the states met so far."""
-        return len(self._met)
+        return len(self._numbered.met)
 
     @property
     def division(self):
@@ -33,8 +29,8 @@ class Table:
         """Return the result (start, end, row) for a text, or None."""
         path = [0]
         for sign in text:
-            path.append(self._target(path[-1], self._flow.cell_numbers[sign]))
-        found = self._result(path[-1])
+            path.append(self._numbered.target(path[-1], self._flow.cell_numbers[sign]))
+        found = self._numbered.result(path[-1])
         if found is None:
             return None
         return self._trace(text, path, found)
@@ -48,41 +44,18 @@ class Table:
 
     def follow(self, state, sign):
         """Return the number of the state that one more sign leads to."""
-        return self._target(state, self._flow.cell_numbers[sign])
+        return self._numbered.target(state, self._flow.cell_numbers[sign])
 
     def complete(self, limit):
         """Meet all states that texts can lead to; return their number, or raise TooManyStates(limit)."""
         state = 0
-        while state < len(self._met):
+        while state < len(self._numbered.met):
             for cell in range(len(self._flow.ground.cell_texts)):
-                if len(self._met) > limit:
+                if len(self._numbered.met) > limit:
                     raise TooManyStates(limit)
-                self._target(state, cell)
+                self._numbered.target(state, cell)
             state = state + 1
-        return len(self._met)
-
-    def _target(self, state, cell):
-        """Return the number of the state behind a cell; number it if it is new."""
-        if (state, cell) not in self._targets:
-            found = self._flow.after(self._met[state], cell)[0]
-            if found not in self._numbers:
-                self._numbers[found] = len(self._met)
-                self._met.append(found)
-            self._targets[state, cell] = self._numbers[found]
-        return self._targets[state, cell]
-
-    def _origins_behind(self, state, cell):
-        """Return the origins of the lanes of the state behind a cell."""
-        # Only a walk back through a text needs them, so that `complete` need not keep them.
-        if (state, cell) not in self._origins:
-            self._origins[state, cell] = self._flow.after(self._met[state], cell)[1]
-        return self._origins[state, cell]
-
-    def _result(self, state):
-        """Return what `Flow.result` says of a state."""
-        if state not in self._results:
-            self._results[state] = self._flow.result(self._met[state])
-        return self._results[state]
+        return len(self._numbered.met)
 
     def _trace(self, text, path, found):
         """Return the answer of the walk that ends in the last state of a path, as `Flow.result` tells."""
@@ -91,7 +64,7 @@ class Table:
         index = len(text)
         end = index if self._place(path[index], lane) != END else None
         while index > 0:
-            origin = self._origins_behind(path[index - 1], self._flow.cell_numbers[text[index - 1]])[lane]
+            origin = self._numbered.origins_behind(path[index - 1], self._flow.cell_numbers[text[index - 1]])[lane]
             if origin == NEW:
                 break
             index = index - 1
@@ -107,4 +80,4 @@ class Table:
 
     def _place(self, state, lane):
         """Return the place of a lane of a state."""
-        return self._met[state][2][lane][0]
+        return self._numbered.lanes_of(state)[lane][0]

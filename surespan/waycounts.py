@@ -10,7 +10,7 @@ from surespan.wayorder import ordered_states, state_of, states_behind
 def ways_row(tree, text, index=0):
     """Return the list of the numbers of ways from the index, by the indexes at which they end. Raises NotRegular."""
     need_regular(tree)
-    return WayCounter(tree, text).row(index)
+    return WayCounter(tree, text).numbers_from(index)
 
 
 def whole_ways(tree, text):
@@ -35,7 +35,7 @@ class WayCounter:
         ]
         self.tables = [look_table(side, body, text) for side, body in list(plan.looks)]
 
-    def row(self, index):
+    def numbers_from(self, index):
         """Return the list of the numbers of ways from the index, by the indexes at which they end."""
         found = [0] * (len(self.text) + 1)
         counts = [0] * len(self.tasks)

@@ -4,6 +4,7 @@ import unittest
 
 from surespan.acceptance import least_accepted, least_answered, least_refused, outside, shared
 from surespan.alphabet import SIGNS, texts_up_to
+from surespan.answers import Answer
 from surespan.cells import cell_of, cells, least_signs
 from surespan.charts import chart_of
 from surespan.derivations import derivations, derive
@@ -20,13 +21,19 @@ from surespan.mirroring import mirror, strip_groups
 from surespan.nearest import machine_within, nearest
 from surespan.partings import parting, parting_from
 from surespan.reading import read_pattern
+from surespan.replacestreams import ReplaceStream
+from surespan.replacing import replace_all
 from surespan.replaying import earlier, replay
 from surespan.residuals import Residual, residual_answer
 from surespan.rewriting import simplify, simplify_steps
 from surespan.rules import winner, winning_text
+from surespan.scanning import find, scan
 from surespan.signsets import SignSet
+from surespan.splitting import split_text
 from surespan.steps import compile_steps
+from surespan.streams import Stream, drain
 from surespan.tables import Table
+from surespan.templates import fill, read_template, write_template
 from surespan.textcounts import accepted_texts, count_texts, length_cycle, number_of, text_at
 from surespan.treeafter import tree_after
 from surespan.trees import group_names, is_plain, is_regular, node_at, paths, with_node
@@ -83,6 +90,27 @@ class ReturnedListsTest(unittest.TestCase):
     def test_returned_lists_of_trees_are_new(self):
         for pattern in ("a", "(a|b)|b|()", "[]*"):
             self.check_new(lambda: simplify_steps(read_pattern(pattern)))
+
+    def test_returned_scans_and_pieces_are_new(self):
+        for text in ("", "ab", "aab"):
+            self.check_new(lambda: scan(read_pattern("{as x:a}|"), text))
+            self.check_new(lambda: split_text(read_pattern("a"), text))
+            self.check_new(lambda: split_text(read_pattern("a"), text, keep=True))
+            self.check_new(lambda: drain(Stream(read_pattern("a|b")), [text, "a"]))
+            self.check_new(lambda: list(Answer(text, 0, 0, (("x", 0, 0), ("y", 0, 0)))))
+
+    def test_lists_that_streams_return_are_new(self):
+        stream, other = Stream(read_pattern("a|")), Stream(read_pattern("a|"))
+        for piece in ("a", "", "ba"):
+            found = stream.feed(piece)
+            self.assertEqual(found, other.feed(piece))
+            found.append("changed")
+            found.reverse()
+            self.assertEqual(stream.told, other.told)
+        found = stream.finish()
+        self.assertEqual(found, other.finish())
+        found.clear()
+        self.assertEqual(stream.told, other.told)
 
     def test_the_division_of_a_table_is_new_at_each_reading(self):
         table = Table(read_pattern("[ab]c{word edge}"))
@@ -157,6 +185,22 @@ class ArgumentsTest(unittest.TestCase):
             if is_plain(tree):
                 calls += [tree_after(tree, "a"), growth(tree), pump(tree)]
             self.assertEqual(repr(tree), before)
+
+    def test_answers_templates_and_pieces_stay_as_they_were(self):
+        tree, text = read_pattern("{as x:a+}|{as y:b}"), "caab"
+        template = read_template("<{x|none}{}>")
+        pieces = ["c", "", "aa", "b"]
+        before = repr((tree, template, pieces))
+        answer = find(tree, text)
+        fields = (answer.text, answer.start, answer.end, answer.row)
+        calls = [fill(template, answer), answer.whole, answer.span("x"), answer["x"], len(answer), list(answer)]
+        calls += [write_template(template), replace_all(tree, template, text), split_text(tree, text, limit=1)]
+        calls += [drain(Stream(tree), pieces), answer == find(tree, text), "x" in answer]
+        stream = ReplaceStream(tree, template)
+        calls += [stream.feed(piece) for piece in pieces] + [stream.finish()]
+        self.assertEqual(repr((tree, template, pieces)), before)
+        self.assertEqual((answer.text, answer.start, answer.end, answer.row), fields)
+        self.assertEqual(calls[0], "<aaaa>")
 
     def test_lists_of_trees_stay_as_they_were(self):
         trees = [read_pattern("a+"), read_pattern("{as x:a|b}"), read_pattern("{ahead:.}[^]*")]

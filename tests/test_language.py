@@ -78,6 +78,13 @@ INTERFACE = {
     "growth": ["growth", "pump"],
     "textcounts": ["count_texts", "text_at", "number_of", "accepted_texts", "length_cycle"],
     "rewriting": ["simplify", "simplify_steps"],
+    "answers": ["Answer"],
+    "scanning": ["find", "scan"],
+    "templates": ["read_template", "write_template", "fill"],
+    "replacing": ["replace_all"],
+    "splitting": ["split_text"],
+    "streams": ["Stream", "drain"],
+    "replacestreams": ["ReplaceStream"],
 }
 CLASS_METHODS = {
     "SignSet": [
@@ -87,6 +94,9 @@ CLASS_METHODS = {
     "Table": ["__init__", "answer", "state_after", "follow", "complete", "states", "division"],
     "Residual": ["__init__", "after", "answer", "length"],
     "Machine": ["__init__", "accepts", "state_after", "__len__", "__eq__"],
+    "Answer": ["__init__", "whole", "__getitem__", "__contains__", "__len__", "__iter__", "__eq__", "span"],
+    "Stream": ["__init__", "feed", "finish", "doubt", "closed", "told", "__enter__", "__exit__"],
+    "ReplaceStream": ["__init__", "feed", "finish"],
 }
 
 
@@ -315,6 +325,27 @@ class LoopTest(unittest.TestCase):
                 for node in rows:
                     changed = set(changed_names(node)) & set(names)
                     self.assertFalse(changed, "L23 {}:{} {}".format(stem, node.lineno, sorted(changed)))
+
+    def test_properties_are_not_assigned(self):
+        properties = {
+            node.name for _, node in nodes_of(ast.FunctionDef)
+            if "property" in [ast.unparse(decorator) for decorator in node.decorator_list]
+        }
+        self.assertIn("told", properties)
+        for stem, node in nodes_of(ast.Attribute):
+            if isinstance(node.ctx, ast.Store):
+                self.assertNotIn(node.attr, properties, "L5 {}:{}".format(stem, node.lineno))
+
+    def test_an_exit_only_assigns(self):
+        for stem, node in nodes_of(ast.FunctionDef):
+            if node.name == "__exit__":
+                self.assertEqual([arg.arg for arg in node.args.args], ["self", "kind", "value", "trace"], "L6 " + stem)
+                self.assertEqual([ast.unparse(row) for row in node.body], ["self._closed = True"], "L6 " + stem)
+
+    def test_an_iteration_is_one_statement(self):
+        for stem, node in nodes_of(ast.FunctionDef):
+            if node.name == "__iter__":
+                self.assertRegex("".join(ast.unparse(row) for row in node.body), r"^return iter\(self\.\w+\)$", "L5 " + stem)
 
     def test_reversed_takes_a_copy(self):
         # Beside a class with `__getitem__`.

@@ -1,0 +1,46 @@
+"""The states of a flow by numbers, with what leads from one to another."""
+
+from surespan.flows import Flow
+
+
+class FlowStates:
+    """The states of the flow of a regular tree in a mode, numbered as they are first met; raises NotRegular."""
+
+    def __init__(self, tree, mode):
+        self.flow = Flow(tree, mode)
+        self.met = []
+        self.numbers = {}
+        # For each state and cell the number of the state behind it, and the origins of the lanes there.
+        self.numbers_behind = {}
+        self.origins = {}
+        self.results = {}
+
+    def number_of(self, state):
+        """Return the number of a state; number it if it is new."""
+        if state not in self.numbers:
+            self.numbers[state] = len(self.met)
+            self.met.append(state)
+        return self.numbers[state]
+
+    def target(self, number, cell):
+        """Return the number of the state behind a cell."""
+        if (number, cell) not in self.numbers_behind:
+            self.numbers_behind[number, cell] = self.number_of(self.flow.after(self.met[number], cell)[0])
+        return self.numbers_behind[number, cell]
+
+    def origins_behind(self, number, cell):
+        """Return the origins of the lanes of the state behind a cell."""
+        # They are kept apart, as whoever wants to know all states does not need them.
+        if (number, cell) not in self.origins:
+            self.origins[number, cell] = self.flow.after(self.met[number], cell)[1]
+        return self.origins[number, cell]
+
+    def result(self, number):
+        """Return what `Flow.result` says of a state."""
+        if number not in self.results:
+            self.results[number] = self.flow.result(self.met[number])
+        return self.results[number]
+
+    def lanes_of(self, number):
+        """Return the tuple of the lanes of a state."""
+        return self.met[number][2]
