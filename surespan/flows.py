@@ -10,6 +10,7 @@ before, marks) for each lane, tell how to go on with that. A walk that begins an
 from surespan.charts import chart_of
 from surespan.conditions import NOTHING, Conditions
 from surespan.grounds import BEGINNING, END, Ground
+from surespan.twins import twins_of
 
 NEW = (-1, ())
 
@@ -21,7 +22,9 @@ class Flow:
         self.ground = Ground([chart_of(tree)], whole=mode == "whole")
         self.searching = mode == "search"
         self.conditions = Conditions(self.ground)
-        self.first_lane = (self.ground.firsts[0],) + NOTHING
+        # From twins all walks go on alike; so lanes stand at one of them for all.
+        self.twins = twins_of(self.ground)
+        self.first_lane = (self.twins[self.ground.firsts[0]],) + NOTHING
         self.cell_numbers = {sign: number for number, cell in enumerate(self.ground.cell_texts) for sign in cell}
         self.first_state = (BEGINNING, 0, (self.first_lane,))
 
@@ -48,7 +51,7 @@ class Flow:
         for must, must_not, marks, target in view.options(place):
             after = self.conditions.with_looks(condition, must, must_not, view)
             if after is not None:
-                gathering.put(target, after, (number, marks))
+                gathering.put(self.twins[target], after, (number, marks))
 
     def result(self, state):
         """Return the pair (number of a lane, marks) for the first walk if the text ends here, or None."""
@@ -80,9 +83,25 @@ class Gathering:
         for earlier in [*self.met.get(END, []), *self.met.get(place, [])]:
             if not earlier & missing:
                 return
-        self.met.setdefault(place, []).append(self.conditions.needs(condition))
+        needs = self.conditions.needs(condition)
+        self.take_back(place, needs, origin)
+        self.met.setdefault(place, []).append(needs)
         self.lanes.append((place,) + condition)
         self.origins.append(origin)
+
+    def take_back(self, place, needs, origin):
+        """Take back those of the last lanes, if they have this place and origin, that a new such lane makes needless.
+
+        They would only bring what the new lane brings, too, whenever they do; and no other lane comes between.
+        """
+        kept = []
+        while self.lanes and self.lanes[-1][0] == place and self.origins[-1] == origin:
+            self.origins.pop()
+            lane = self.lanes.pop()
+            if needs & ~self.conditions.grants(lane[1:]):
+                kept.append(lane)
+        self.lanes.extend(kept[::-1])
+        self.origins.extend([origin] * len(kept))
 
 
 def trimmed(context, behind, lanes):

@@ -24,16 +24,19 @@ class FlowStates:
 
     def target(self, number, cell):
         """Return the number of the state behind a cell."""
-        if (number, cell) not in self.numbers_behind:
-            self.numbers_behind[number, cell] = self.number_of(self.flow.after(self.met[number], cell)[0])
-        return self.numbers_behind[number, cell]
+        key = (number, cell)
+        if key not in self.numbers_behind:
+            self.numbers_behind[key] = self.number_of(self.flow.after(self.met[number], cell)[0])
+        return self.numbers_behind[key]
 
-    def origins_behind(self, number, cell):
-        """Return the origins of the lanes of the state behind a cell."""
-        # They are kept apart, as whoever wants to know all states does not need them.
-        if (number, cell) not in self.origins:
-            self.origins[number, cell] = self.flow.after(self.met[number], cell)[1]
-        return self.origins[number, cell]
+    def step(self, number, cell):
+        """Return the number of the state behind a cell, and the origins of its lanes."""
+        key = (number, cell)
+        # Whoever wants to know all states does not need the origins; so `target` does not keep them.
+        if key not in self.origins:
+            state, self.origins[key] = self.flow.after(self.met[number], cell)
+            self.numbers_behind[key] = self.number_of(state)
+        return self.numbers_behind[key], self.origins[key]
 
     def result(self, number):
         """Return what `Flow.result` says of a state."""

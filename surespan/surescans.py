@@ -19,15 +19,9 @@ class Course:
 
     def read(self, cell):
         """Read a sign of the cell."""
-        lanes, origins = self.step(cell)
-        self.loads = loads_behind(self.loads, lanes, origins, self.index)
-        self.number = self.flow_states.target(self.number, cell)
+        self.number, origins = self.flow_states.step(self.number, cell)
+        self.loads = loads_behind(self.loads, self.flow_states.lanes_of(self.number), origins, self.index)
         self.index = self.index + 1
-
-    def step(self, cell):
-        """Return the lanes behind a sign of the cell, and their origins."""
-        after = self.flow_states.target(self.number, cell)
-        return self.flow_states.lanes_of(after), self.flow_states.origins_behind(self.number, cell)
 
     def is_decided(self):
         """Return True if what follows surely makes no difference, otherwise False."""
@@ -120,7 +114,8 @@ class SureScan:
 
     def nodes_with_change(self, cell, answer):
         """Return the list of the nodes behind a sign of the cell at which the answer is not the next one."""
-        lanes, origins = self.course.step(cell)
+        number, origins = self.flow_states.step(self.course.number, cell)
+        lanes = self.flow_states.lanes_of(number)
         same = [lane[0] == END and self.is_same(answer, origin) for lane, origin in zip(lanes, origins)]
         return self.hunt.nodes_with_change(lanes, same)
 

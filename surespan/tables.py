@@ -64,7 +64,8 @@ class Table:
         index = len(text)
         end = index if self._place(path[index], lane) != END else None
         while index > 0:
-            origin = self._numbered.origins_behind(path[index - 1], self._flow.cell_numbers[text[index - 1]])[lane]
+            cell = self._flow.cell_numbers[text[index - 1]]
+            origin = self._numbered.step(path[index - 1], cell)[1][lane]
             if origin == NEW:
                 break
             index = index - 1
