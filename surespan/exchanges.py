@@ -48,7 +48,11 @@ def list_parting(tree, other):
     """Return the least text on which the end lists of two trees differ, or None. Raises NotPlain."""
     need_plain(tree)
     need_plain(other)
-    ground = Ground([chart_of(tree), chart_of(other)], whole=True)
+    charts = [chart_of(tree), chart_of(other)]
+    # Equal charts have the same walks on each text.
+    if charts[0] == charts[1]:
+        return None
+    ground = Ground(charts, whole=True)
     first, second = ground.firsts
     # On the least text it is the last end that makes the difference: only one tree has it, its rows differ, or it
     # stands before an earlier end in one list and behind it in the other one.

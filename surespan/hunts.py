@@ -37,6 +37,7 @@ class Hunt:
         self.asked_behind = self.find_asked_behind()
         # For each kind of node what `is_new` needs of those met so far.
         self.met = {}
+        self.kept_moves = {}
 
     def least_text(self, nodes):
         """Return the least text that fulfils one of the nodes, or None."""
@@ -141,42 +142,71 @@ class Hunt:
 
     def settled_after(self, wanted, barred, view):
         """Return the list of the settled nodes to which one with these places leads."""
-        found = []
-        for looks, more_wanted, more_barred in self.guesses(view.asked(wanted | barred), view):
-            after_barred = view.reach_all(barred, looks) | more_barred
+        return [settled(*masks) for masks in self.masks_after(wanted, barred, 0, 0, view)]
+
+    def masks_after(self, wanted, barred, must, must_not, view):
+        """Return the list of the pairs of the wanted and the barred places behind the index.
+
+        At the index, the open looks in `must` find their bodies, and those in `must_not` do not.
+        """
+        found = {}
+        if must & must_not:
+            return []
+        # It is guessed what looks find that the barred places ask for. Of the others, only what is needed is asked.
+        for finding, missing in guesses(view.asked(barred) & ~must & ~must_not, must, must_not):
+            after_barred = view.reach_all(barred, finding)
             if not after_barred >> END & 1:
-                for after_wanted in self.choices(wanted, looks, view):
-                    found.append(settled(after_wanted | more_wanted, after_barred))
-        return found
+                for targets, found_looks, missed_looks in self.choices(wanted, finding, missing, view):
+                    after = after_barred | joined(missed_looks, view.begun)
+                    for chosen in self.begun_choices(found_looks, view):
+                        found[targets | chosen, after] = True
+        return list(found)
 
-    def guesses(self, asked, view):
-        """Return the list of all that may be said of the open looks in the mask `asked`.
+    def choices(self, wanted, finding, missing, view):
+        """Return the list of the triples (places, looks that find, looks that do not) that serve all wanted places.
 
-        Each item is a triple: the mask of the looks that find their bodies, and the masks of the places from which a
-        walk must or must not come to an end for that behind the index.
+        It is empty if there is no way to do so. For each wanted place a move is chosen that is allowed if the looks in
+        `finding` find their bodies and those in `missing` do not.
         """
-        found = [(0, 0, 0)]
-        for look in bits_of(asked):
-            begun = view.begun[look]
-            yes = [
-                (looks | 1 << look, wanted | 1 << place, barred)
-                for looks, wanted, barred in found for place in self.best(begun)
-            ]
-            found = [*yes, *[(looks, wanted, barred | begun) for looks, wanted, barred in found]]
-        return found
-
-    def choices(self, wanted, looks, view):
-        """Return the list of the masks of places behind the index that bring all wanted ones to an end.
-
-        It is empty if there is no way to do so. One place is chosen for each wanted one.
-        """
-        found = [0]
+        found = [(0, finding, missing)]
         for place in bits_of(wanted):
-            reach = view.reach(place, looks)
-            if not reach >> END & 1:
-                best = self.best(reach)
-                found = list({chosen | 1 << target: True for chosen in found for target in best})
+            further = {}
+            for must, must_not, target in self.best_moves(place, view):
+                bit = 0 if target == END else 1 << target
+                for chosen, yes, no in found:
+                    if not must & no and not must_not & yes:
+                        further[chosen | bit, yes | must, no | must_not] = True
+            found = list(further)
         return found
+
+    def begun_choices(self, looks, view):
+        """Return the list of the masks in which there is a place for each open look from which its walk goes on."""
+        found = [0]
+        for look in bits_of(looks):
+            places = self.best(view.begun[look])
+            found = list({chosen | 1 << place: True for chosen in found for place in places})
+        return found
+
+    def best_moves(self, place, view):
+        """Return the list of the moves (looks that must find, looks that must not, target) of a place.
+
+        A move is left out if another one asks for no more and comes to an end whenever it does.
+        """
+        key = (view, place)
+        if key not in self.kept_moves:
+            kept = []
+            for must, must_not, _, target in view.options(place):
+                move = (must, must_not, target)
+                if not [other for other in kept if self.is_as_good(other, move)]:
+                    kept = [*[other for other in kept if not self.is_as_good(move, other)], move]
+            self.kept_moves[key] = kept
+        return list(self.kept_moves[key])
+
+    def is_as_good(self, move, other):
+        """Return True if a move asks for no more than another one and surely comes to an end whenever that one does."""
+        if move[0] & ~other[0] or move[1] & ~other[1]:
+            return False
+        return move[2] == END or self.above[other[2]] >> move[2] & 1 == 1
 
     def best(self, mask):
         """Return the list of the places of a mask without those that are below another one of them."""
@@ -187,6 +217,18 @@ class Hunt:
             if not [other for other in bits_of(others) if other < place or not self.below[place] >> other & 1]:
                 found.append(place)
         return found
+
+
+def guesses(looks, finding, missing):
+    """Return the list of the pairs (looks that find, looks that do not) for all that may be said of some looks.
+
+    The looks in `finding` and in `missing` are in each pair.
+    """
+    found = [(finding, missing)]
+    for look in bits_of(looks):
+        bit = 1 << look
+        found = [*[(yes | bit, no) for yes, no in found], *[(yes, no | bit) for yes, no in found]]
+    return found
 
 
 def is_new(met, opened, demands):

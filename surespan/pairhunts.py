@@ -2,7 +2,8 @@
 
 from surespan.differences import Differences
 from surespan.grounds import END
-from surespan.hunts import SETTLED, Hunt, settled
+from surespan.hunts import SETTLED, Hunt, guesses, settled
+from surespan.masks import joined
 
 # At this stage the first ways of the two trees from one index are followed.
 PAIRED = 1
@@ -47,16 +48,18 @@ class PairHunt(Hunt):
         """Return the list of the nodes to which one leads that follows the first ways of both trees."""
         _, (first, second), differing, wanted, barred = node
         found = []
-        asked = view.asked(wanted | barred | 1 << first | 1 << second)
-        for looks, more_wanted, more_barred in self.guesses(asked, view):
-            after_barred = view.reach_all(barred, looks) | more_barred
+        asked = view.asked(barred | 1 << first | 1 << second)
+        for finding, missing in guesses(asked, 0, 0):
+            after_barred = view.reach_all(barred, finding)
             if not after_barred >> END & 1:
                 picked = [
-                    (pick, other) for pick in picks(first, looks, view) for other in picks(second, looks, view)
+                    (pick, other) for pick in picks(first, finding, view) for other in picks(second, finding, view)
                 ]
-                for after_wanted in self.choices(wanted, looks, view):
-                    masks = (after_wanted | more_wanted, after_barred)
-                    found.extend([after for pair in picked for after in self.followed(differing, masks, pair)])
+                for targets, found_looks, missed_looks in self.choices(wanted, finding, missing, view):
+                    after = after_barred | joined(missed_looks, view.begun)
+                    for chosen in self.begun_choices(found_looks, view):
+                        masks = (targets | chosen, after)
+                        found.extend([node for pair in picked for node in self.followed(differing, masks, pair)])
         return found
 
     def followed(self, differing, masks, picked):

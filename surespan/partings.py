@@ -13,6 +13,9 @@ def parting(tree, other, *, level="answer"):
     Raises NotRegular.
     """
     charts = [chart_of(tree), chart_of(other)]
+    # Equal charts have the same walks on each text.
+    if charts[0] == charts[1]:
+        return None
     if level == "whole":
         ground = Ground(charts, whole=True)
         first, second = ground.firsts
@@ -25,8 +28,10 @@ def parting_from(tree, other):
 
     Raises NotRegular.
     """
-    ground = Ground([chart_of(tree), chart_of(other)])
-    text = PairHunt(ground, with_rows=True).least_text([(WAITING, (), 0, 0, 0)])
+    charts = [chart_of(tree), chart_of(other)]
+    text = None
+    if charts[0] != charts[1]:
+        text = PairHunt(Ground(charts), with_rows=True).least_text([(WAITING, (), 0, 0, 0)])
     if text is None:
         return None
     starts = [

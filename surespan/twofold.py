@@ -2,7 +2,7 @@
 
 from surespan.grounds import END, Ground
 from surespan.hunts import SETTLED, Hunt, settled
-from surespan.masks import mask_of
+from surespan.masks import bits_of, mask_of
 from surespan.waycharts import way_chart
 
 # At this stage all signs have been read by what may still become two ways; the pair has their only place.
@@ -26,27 +26,31 @@ class WayHunt(Hunt):
         stage, pair, _, wanted, barred = node
         if stage == SETTLED:
             return self.settled_after(wanted, barred, view)
-        ways = view.ways_on(pair[0])
-        asked = view.asked(wanted | barred)
-        for must, must_not, _, _ in ways:
-            asked = asked | must | must_not
         found = []
-        for looks, more_wanted, more_barred in self.guesses(asked, view):
-            after_barred = view.reach_all(barred, looks) | more_barred
-            if not after_barred >> END & 1:
-                targets = [
-                    target for must, must_not, _, target in ways if not must & ~looks and not must_not & looks
-                ]
-                for after_wanted in self.choices(wanted, looks, view):
-                    found.extend(nodes_behind(targets, after_wanted | more_wanted, after_barred))
+        for (must, must_not), steps in steps_by_looks(view.ways_on(pair[0])).items():
+            masks = self.masks_after(wanted, barred, must, must_not, view)
+            found.extend([step_node(step, after) for after in masks for step in steps])
         return found
 
 
-def nodes_behind(targets, wanted, barred):
-    """Return the list of the nodes to which ways from one place lead; `targets` has the target of each of them."""
-    together = [(UNPARTED, (target,), 0, wanted, barred) for target in targets if target != END]
-    parted = {}
-    for number, target in enumerate(targets):
-        for other in targets[:number]:
-            parted[mask_of([target, other]) & ~(1 << END)] = True
-    return [*together, *[settled(wanted | mask, barred) for mask in parted]]
+def steps_by_looks(ways):
+    """Return a dict with the steps from a place, by the looks that must find and that must not find.
+
+    A step is a pair (places, whether two ways part). `ways` has the moves of the place.
+    """
+    found = {}
+    for number, (must, must_not, _, target) in enumerate(ways):
+        if target != END:
+            found.setdefault((must, must_not), {})[1 << target, False] = True
+        for other_must, other_must_not, _, other in ways[:number]:
+            places = mask_of([target, other]) & ~(1 << END)
+            found.setdefault((must | other_must, must_not | other_must_not), {})[places, True] = True
+    return found
+
+
+def step_node(step, masks):
+    """Return the node to which a step leads; `masks` has the places that are wanted and barred besides."""
+    places, parts = step
+    if parts:
+        return settled(masks[0] | places, masks[1])
+    return (UNPARTED, tuple(bits_of(places)), 0) + masks

@@ -90,6 +90,10 @@ class SpeedTest(unittest.TestCase):
             self.assertLessEqual(weight(tree), 24)
             found = twofold(tree)
             self.assertTrue(found is None or whole_ways(tree, found) > 1, pattern)
+        self.assertEqual(twofold(read_pattern("({ahead:.<9>.<9>b}a|[ab])*")), "a" * 18 + "b")
+        self.assertEqual(twofold(read_pattern("({not ahead:.<9>.<9>b}a|[ab])*")), "a")
+        found = twofold(read_pattern("({ahead:.<9>b}a{behind:b.<9>}|[ab])*"))
+        self.assertEqual(found, "b" + "a" * 17 + "b")
 
     def test_growth(self):
         for pattern in CAPTURING + HEAVY + MORE:

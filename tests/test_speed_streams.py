@@ -25,6 +25,7 @@ LATE = [
     "[ab]*a[ab]<9>[ab]<9>c", "[ab]*~a[ab]<9>[ab]<9>c|a", "(.*a.<9>)?b", "a(.*b.<9>.<9>)?~c", "({ahead:.*a.<7>b}x|{not ahead:.*b.<8>a}y|a)",
     "a{not ahead:.*a.<8>b}|{as x:a}", "a{not ahead:[ab]*a[ab]<8>}|{as x:a}", "({word}+{blank}*)*~{end}", "{line start}.*{line end}", "[^]*b", "([^]*b)?",
     "{ahead:(a<3>)*b}a{ahead:(a<4>)*b}|{ahead:(a<5>)*b}{as x:a}", "a(({ahead:[ab]*a[ab]<5>c}|{ahead:[ab]*b[ab]<5>c})[abc]*|d)?",
+    "({ahead:.<9>.<9>b}a|[ab])*", "({ahead:.<8>b}a|{ahead:.<8>c}a|a)*", "({ahead:.<9>b}{as x:a}|a)*", "({not ahead:.<9>b}a|{ahead:.<8>b}a)*",
     "a{ahead:([^]*a[^]<6>|[^]*[^a][^]<6>|[^]<0,6>){end}}|{as x:a}",
 ]
 

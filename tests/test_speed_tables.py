@@ -17,6 +17,11 @@ from surespan.tables import Table
 from surespan.treeafter import tree_after
 from tests.test_speed import BOUNDS, CAPTURING, LONG, LOOKING, PATTERNS, SECONDS
 
+# Looks ahead stay open for long, and several branches go on with the same signs.
+OPEN = [
+    "({ahead:.<9>.<9>b}a|[ab])*", "({ahead:.<8>b}a|{ahead:.<8>c}a|a)*", "({not ahead:.<9>b}a|{ahead:.<8>b}a|.)*c",
+    "({ahead:.<9>b}a{behind:b.<9>}|[ab])*", "({ahead:.<6>b}{as x:a}|[ab])*",
+]
 MODES = ("search", "here", "whole")
 LEVELS = ("whole", "span", "answer")
 # Trees with a weight of at most 24, with many signs, looks, edges and groups; most have a weight of 9 or more.
@@ -72,7 +77,7 @@ class SpeedTest(unittest.TestCase):
                 self.assertEqual(len(look_table("ahead", tree, text) + look_table("behind", tree, text)), 602)
 
     def test_tables_and_residuals(self):
-        for pattern in [*HEAVY, *FOUR_LOOKS, *LOOKING, *CAPTURING]:
+        for pattern in [*HEAVY, *FOUR_LOOKS, *LOOKING, *CAPTURING, *OPEN]:
             tree = read_pattern(pattern)
             for text in self.texts:
                 for mode in MODES:
@@ -101,6 +106,11 @@ class SpeedTest(unittest.TestCase):
                 for level in LEVELS:
                     self.assertIsNone(parting(tree, other, level=level), pattern)
             self.assertIsNone(parting_from(tree, parts_of(tree)[0]))
+        # Looks behind that look back far, in trees that are written alike but for what reads nothing.
+        tree = read_pattern("({behind:b.<9>.<9>}{as x:a}|a|b)*")
+        for level in LEVELS:
+            self.assertIsNone(parting(tree, parts_of(tree)[0], level=level))
+        self.assertIsNone(parting_from(parts_of(tree)[0], tree))
 
     def test_trees_that_differ(self):
         trees = [read_pattern(pattern) for pattern in HEAVY + FOUR_LOOKS]
