@@ -21,15 +21,11 @@ class DoubtHunt(Hunt):
             return self.settled_after(wanted, barred, view)
         return [*self.settled_after(1 << self.ground.firsts[0], 0, view), node]
 
-    def bunches_of(self, beginnings):
-        """Return the list of the bunches for a list of quadruples (text, context, behind, nodes), in text order."""
-        self.met = {}
-        found = []
-        for text, context, behind, nodes in beginnings:
-            kept = self.new_nodes(context, behind, nodes)
-            if kept:
-                found.append((text, context, behind, kept))
-        return found
+    def places_asking(self, node):
+        """Return the list of the places that ask for looks behind, or None, as `Hunt.places_asking` does."""
+        if node[0] == ANYWHERE:
+            return self.asking([self.ground.firsts[0]], 0)
+        return super().places_asking(node)
 
     def nodes_with_answer(self, lanes):
         """Return the list of the nodes at which one of the lanes gets through, or a later walk comes to an end."""

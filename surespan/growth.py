@@ -65,9 +65,10 @@ def longest_chain(paths):
     """Return a longest chain as a list of links."""
     chains = []
     # The fewer places can be reached behind a link, the fewer links follow it.
-    for link in sorted(links_of(paths), key=lambda link: len(bits_of(paths.reached[link[1]]))):
-        tails = [chain for chain in chains if paths.reached[link[1]] >> chain[0][0] & 1]
-        chains.append([link, *max(tails, key=len, default=[])])
+    links = sorted([(len(bits_of(paths.reached[last])), first, last, text) for first, last, text in links_of(paths)])
+    for _, first, last, text in links:
+        tails = [chain for chain in chains if paths.reached[last] >> chain[0][0] & 1]
+        chains.append([(first, last, text), *max(tails, key=len, default=[])])
     return max(chains, key=len, default=[])
 
 

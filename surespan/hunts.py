@@ -15,6 +15,8 @@ from surespan.likeness import likeness
 from surespan.masks import bits_of, joined, mask_of
 
 SETTLED = 0
+# So many looks behind that must find are not counted any more.
+MANY = 3
 
 
 def settled(wanted, barred):
@@ -35,38 +37,86 @@ class Hunt:
         ]
         # The looks behind that places ask for, on the way to an end: those that must find, and those that must not.
         self.asked_behind = self.find_asked_behind()
+        # For each place how many looks behind must find on a way to an end, at most; but not more than `MANY`.
+        self.finds = self.most_finds()
         # For each kind of node what `is_new` needs of those met so far.
         self.met = {}
         self.kept_moves = {}
 
     def least_text(self, nodes):
         """Return the least text that fulfils one of the nodes, or None."""
-        return self.least_text_of([("", BEGINNING, 0, self.new_nodes(BEGINNING, 0, nodes))])
+        return self.least_text_of([("", BEGINNING, 0, nodes)])
 
-    def least_text_of(self, bunches):
-        """Return the least text that goes on from one of the bunches, or None; they are in text order."""
+    def least_text_of(self, beginnings):
+        """Return the least text that goes on from one of the beginnings, which are in text order, or None.
+
+        A beginning is a quadruple (text, context, behind, nodes), and so is a bunch of nodes that are kept.
+        """
+        self.met = {}
+        bunches = self.bunches_of(beginnings)
         while bunches:
             for text, context, behind, held in bunches:
                 view = self.ground.view_of_end(context, behind)
                 for node in held:
                     if [after for after in self.nodes_after(node, view) if is_fulfilled(after)]:
                         return text
-            bunches = [later for bunch in bunches for later in self.bunches_after(bunch)]
+            reached = [later for bunch in bunches for later in self.beginnings_after(bunch)]
+            bunches = self.bunches_of(sorted(reached, key=text_of))
         return None
 
-    def bunches_after(self, bunch):
-        """Return the list of the bunches (text, context, behind, nodes) for the texts with one sign more."""
+    def beginnings_after(self, bunch):
+        """Return the list of the beginnings for the texts with one sign more than that of a bunch."""
         text, context, behind, held = bunch
         found = []
         for cell, sign in enumerate(self.ground.leasts):
             view = self.ground.view(context, behind, cell)
-            after_context = self.ground.contexts[cell]
-            after_behind = self.ground.behind_after(context, behind, cell)
             reached = [after for node in held for after in self.nodes_after(node, view)]
-            kept = self.new_nodes(after_context, after_behind, reached)
-            if kept:
-                found.append((text + sign, after_context, after_behind, kept))
+            after_behind = self.ground.behind_after(context, behind, cell)
+            found.append((text + sign, self.ground.contexts[cell], after_behind, reached))
         return found
+
+    def bunches_of(self, beginnings):
+        """Return the list of the bunches of those nodes that are kept. A text may have several bunches."""
+        found = []
+        for text, context, behind, nodes in beginnings:
+            groups = {}
+            for node in nodes:
+                for share in self.shares(node, behind):
+                    groups.setdefault(share, []).append(node)
+            for share, group in groups.items():
+                kept = self.new_nodes(context, share, group)
+                if kept:
+                    found.append((text, context, share, kept))
+        return found
+
+    def shares(self, node, behind):
+        """Return the list of the parts of `behind` of which one is enough to fulfil a node, if all of it is.
+
+        In the places of the mask `behind`, walks of looks behind stand. Each look that must find needs only one.
+        """
+        asking = self.places_asking(node)
+        if asking is None:
+            return [behind]
+        useful = bits_of(behind & joined(mask_of(asking), self.asked_behind[0]))
+        found = [0]
+        for _ in range(min(sum([self.finds[place] for place in asking]), len(useful))):
+            found = list({share | 1 << place: True for share in found for place in useful if not share >> place & 1})
+        return found
+
+    def places_asking(self, node):
+        """Return the list of the places from which walks must come to an end for a node, with all that they ask for.
+
+        Return None if it is not known that so few looks behind are asked for, and that they must only find.
+        """
+        stage, _, _, wanted, barred = node
+        return self.asking(bits_of(wanted), barred) if stage == SETTLED else None
+
+    def asking(self, places, barred):
+        """Return the list of the places, or None if too much is asked behind, as `places_asking` does."""
+        finding, missing = self.asked_behind
+        if joined(barred, finding) | joined(barred | mask_of(places), missing):
+            return None
+        return places if sum([self.finds[place] for place in places]) < MANY else None
 
     def new_nodes(self, context, behind, nodes):
         """Return the list of those nodes that can be fulfilled, as far as is seen, and are not left out."""
@@ -112,6 +162,23 @@ class Hunt:
                     missing[place] = missing[place] | joined(must_not, masks) | missing[target]
                 changed = changed or before != (finding[place], missing[place])
         return finding, missing
+
+    def most_finds(self):
+        """Return a list with the greatest number of looks behind for each place that must find on a way to an end.
+
+        Greater numbers than `MANY` are not told apart from it.
+        """
+        behind = mask_of([number for number, mask in enumerate(self.ground.behind_masks) if mask])
+        found = [0] * len(self.ground.moves)
+        changed = True
+        while changed:
+            changed = False
+            for place, moves in enumerate(self.ground.moves):
+                counts = [len(bits_of(must & behind)) + found[target] for _, must, _, _, target in moves]
+                count = min(MANY, max(counts, default=0))
+                changed = changed or count != found[place]
+                found[place] = count
+        return found
 
     def roles_behind(self, stage, wanted, barred):
         """Return the masks of the places of looks behind where walks help to fulfil a node, and where they hurt.
@@ -217,6 +284,11 @@ class Hunt:
             if not [other for other in bits_of(others) if other < place or not self.below[place] >> other & 1]:
                 found.append(place)
         return found
+
+
+def text_of(beginning):
+    """Return the text of a beginning."""
+    return beginning[0]
 
 
 def guesses(looks, finding, missing):

@@ -97,7 +97,7 @@ class SureScan:
                 (sign,) + self.surroundings_behind(cell) + (self.nodes_with_change(cell, answer),)
                 for cell, sign in enumerate(self.ground.leasts)
             ]
-            self.changes[key] = self.hunt.least_text_of(self.hunt.bunches_of(beginnings))
+            self.changes[key] = self.hunt.least_text_of(beginnings)
         return self.changes[key]
 
     def endings_like(self, answer):
@@ -133,5 +133,5 @@ class SureScan:
                 for cell, sign in enumerate(self.ground.leasts)
             ]
         if key not in self.changes:
-            self.changes[key] = self.hunt.least_text_of(self.hunt.bunches_of(beginnings))
+            self.changes[key] = self.hunt.least_text_of(beginnings)
         return self.changes[key]

@@ -32,6 +32,14 @@ class WayHunt(Hunt):
             found.extend([step_node(step, after) for after in masks for step in steps])
         return found
 
+    def places_asking(self, node):
+        """Return the list of the places that ask for looks behind, or None, as `Hunt.places_asking` does."""
+        stage, pair, _, wanted, barred = node
+        if stage == UNPARTED:
+            # Each of the two ways may ask for all of it.
+            return self.asking([*pair, *pair, *bits_of(wanted)], barred)
+        return super().places_asking(node)
+
 
 def steps_by_looks(ways):
     """Return a dict with the steps from a place, by the looks that must find and that must not find.
