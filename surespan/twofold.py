@@ -42,17 +42,20 @@ class WayHunt(Hunt):
 
 
 def steps_by_looks(ways):
-    """Return a dict with the steps from a place, by the looks that must find and that must not find.
+    """Return a dict with the list of the steps from a place, by the looks that must find and that must not find.
 
     A step is a pair (places, whether two ways part). `ways` has the moves of the place.
     """
-    found = {}
+    steps = {}
     for number, (must, must_not, _, target) in enumerate(ways):
         if target != END:
-            found.setdefault((must, must_not), {})[1 << target, False] = True
+            steps[must, must_not, 1 << target, False] = True
         for other_must, other_must_not, _, other in ways[:number]:
             places = mask_of([target, other]) & ~(1 << END)
-            found.setdefault((must | other_must, must_not | other_must_not), {})[places, True] = True
+            steps[must | other_must, must_not | other_must_not, places, True] = True
+    found = {}
+    for must, must_not, places, parts in steps:
+        found.setdefault((must, must_not), []).append((places, parts))
     return found
 
 
